@@ -1,0 +1,1 @@
+"""Goesout: rules by which small caches let things go."""
