@@ -1,4 +1,6 @@
-"""Rules and wrong values that several tests use."""
+"""Rules, wrong values and a comparison that several tests use."""
+
+import unittest
 
 
 def plain(places, out, come, hit=None):
@@ -104,3 +106,9 @@ def kinds(value):
     if isinstance(value, dict):
         return ("dict", [(kinds(key), kinds(value[key])) for key in value])
     return (type(value).__name__, value)
+
+
+class Case(unittest.TestCase):
+    def assert_same(self, found, expected):
+        """Equal, and of the same kinds throughout."""
+        self.assertEqual(kinds(found), kinds(expected))

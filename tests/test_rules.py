@@ -9,8 +9,8 @@ from goesout import rules
 from goesout.errors import GoesError, NoRule, NoState, NoThing
 from goesout.rules import asked, beginning, is_rule, is_state
 from tests.samples import (
-    BACK, FRONT_2, MIXED, NARROW, NEWEST_2, ODD, ONE, QUEUE_2, RECENT_2, RECENT_3, RULES, STAY,
-    TURN, WIDE, WRONG_PARTS, kinds, nested_deep, plain, replaced, reshaped,
+    BACK, FRONT_2, MIXED, NARROW, NEWEST_2, ODD, ONE, QUEUE_2, RECENT_2, RECENT_3, RULES, STAY, TURN,
+    WIDE, WRONG_PARTS, Case, nested_deep, plain, replaced, reshaped,
 )
 
 MOVE_2 = ((0, 1), 0)
@@ -41,12 +41,6 @@ def asked_slowly(rule, state, thing):
     for new, old in enumerate(order):
         then[new] = at[old]
     return (bool(found), lost, (tuple(then[place] for place in range(places)), label_then))
-
-
-class Case(unittest.TestCase):
-    def assert_same(self, found, expected):
-        """Equal, and of the same kinds throughout."""
-        self.assertEqual(kinds(found), kinds(expected))
 
 
 class IsRuleTest(Case):

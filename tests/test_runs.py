@@ -10,14 +10,14 @@ from goesout.errors import GoesError, NoRequests, NoRule
 from goesout.rules import asked, beginning, is_state
 from goesout.runs import behind, gone, hits, is_requests, kept, misses
 from tests.samples import (
-    MIXED, NARROW, NEWEST_2, ODD, ONE, QUEUE_2, QUEUE_3, RECENT_2, RULES, WIDE, kinds, nested_deep,
+    MIXED, NARROW, NEWEST_2, ODD, ONE, QUEUE_2, QUEUE_3, RECENT_2, RULES, WIDE, Case, nested_deep,
     replaced, reshaped,
 )
 
 FUNCTIONS = (behind, kept, hits, gone, misses)
 SESSION = (0, 1, 0, 2, 0, 1)
 
-# A thing stands alone in requests where it stands in the place of a tuple.
+# None of these is a thing, so a tuple that holds one is no requests.
 WRONG_PARTS = (None, True, False, "", "0", [], {}, [0], {0: 0}, -1, -2, 100, (), (0,), ((0,),))
 
 
@@ -28,12 +28,6 @@ def made_up(length, seed):
         number = (number * 1103515245 + 12345) % 2 ** 31
         found.append((0, 99, 3, 50, 7, 1)[number // 65536 % 6])
     return tuple(found)
-
-
-class Case(unittest.TestCase):
-    def assert_same(self, found, expected):
-        """Equal, and of the same kinds throughout."""
-        self.assertEqual(kinds(found), kinds(expected))
 
 
 class IsRequestsTest(Case):
@@ -164,6 +158,7 @@ class WrongTest(Case):
             for value in ODD + (nested_deep(20),):
                 self.assertRaises(NoRule, function, value, (0, 1))
             for value in reshaped(ONE):
+                # The one label row twice is a rule all the same.
                 if value != (1, ONE[1] * 2):
                     self.assertRaises(NoRule, function, value, (0, 1))
             for value in replaced(NARROW, True):
