@@ -74,6 +74,11 @@ def check_thing(thing):
 def beginning(rule):
     """Return the state at first: all places blank, label 0."""
     check_rule(rule)
+    return begun(rule)
+
+
+def begun(rule):
+    """Return what beginning returns, for a rule that was checked before."""
     return (BLANK,) * rule[0], 0
 
 

@@ -1,6 +1,11 @@
-"""Rules, wrong values and a comparison that several tests use."""
+"""Rules, wrong values, slow ways to find things, and a comparison that several tests use."""
 
+import functools
+import itertools
+import random
 import unittest
+
+from goesout.rules import asked, beginning
 
 
 def plain(places, out, come, hit=None):
@@ -50,6 +55,52 @@ WIDE = many_rows(((0, 1, 2, 3), (3, 0, 1, 2), (1, 0, 3, 2), (2, 3, 1, 0), (1, 2,
 
 RULES = (ONE, RECENT_2, RECENT_3, QUEUE_2, QUEUE_3, NEWEST_2, MIXED, NARROW, WIDE)
 
+
+def made_rule(places, many, seed):
+    """Return a rule with so many labels, always the same for a seed."""
+    source = random.Random(seed)
+    orders = list(itertools.permutations(range(places)))
+
+    def moves():
+        return tuple((source.choice(orders), source.randrange(many)) for _ in range(places))
+    return (places, tuple((moves(), source.randrange(places), moves()) for _ in range(many)))
+
+
+# Pairs of all kinds of rules that have few arrangements: named and made up,
+# with as many places, fewer and more, nested and apart.
+PAIRS = (
+    (ONE, ONE), (ONE, RECENT_2), (RECENT_2, ONE), (RECENT_2, RECENT_3), (RECENT_3, RECENT_2),
+    (QUEUE_2, QUEUE_3), (QUEUE_3, QUEUE_2), (QUEUE_2, RECENT_2), (RECENT_2, QUEUE_2), (NEWEST_2, QUEUE_3),
+    (QUEUE_3, NEWEST_2), (NEWEST_2, RECENT_3), (MIXED, RECENT_2), (RECENT_2, MIXED), (MIXED, MIXED),
+) + tuple((made_rule(2, 1 + seed % 2, seed), made_rule(2 + seed % 2, 1 + seed % 3, -seed))
+          for seed in range(1, 13))
+
+def by_turns(places, outs):
+    """Return a rule with things as recent has them, that lets go the first or the last by turns.
+
+    outs has for each label True where the first one goes.
+    """
+    orders = [(place,) + tuple(other for other in range(places) if other != place) for place in range(places)]
+    moves = [tuple((order, (label + 1) % len(outs)) for order in orders) for label in range(len(outs))]
+    return (places, tuple((moves[label], 0 if outs[label] else places - 1, moves[label])
+                          for label in range(len(outs))))
+
+
+def in_time(first, then, after):
+    """Return a rule that does for so many requests what one does, and what another does from then on."""
+    rows = [(first if label < after else then)[1][0] for label in range(after + 1)]
+    return (first[0], tuple((tuple((order, min(label + 1, after)) for order, _ in hits), out,
+                             tuple((order, min(label + 1, after)) for order, _ in comes))
+                            for label, (hits, out, comes) in enumerate(rows)))
+
+
+# Pairs that differ for some time only, so that the excess has a bound.
+LATE_PAIRS = (
+    (in_time(NEWEST_2, RECENT_2, 5), RECENT_2), (RECENT_2, in_time(NEWEST_2, RECENT_2, 5)),
+    (in_time(QUEUE_2, RECENT_2, 7), RECENT_2), (RECENT_2, in_time(QUEUE_2, RECENT_2, 3)),
+    (RECENT_3, in_time(QUEUE_3, RECENT_3, 5)),
+)
+
 # Values of every kind that callers may hand in; none of them is a rule, a
 # state, a thing or requests. -2, 100 and 17 are beyond every range.
 ODD = (
@@ -94,6 +145,101 @@ def reshaped(value):
         found.append(value[:at] + (part,) + value[at:])
         found += [value[:at] + (other,) + value[at + 1:] for other in reshaped(part)]
     return found
+
+
+def by_names(state, other):
+    """Return two states, with their things numbered as they come."""
+    things = [thing for thing in state[0] + other[0] if thing != -1]
+    names = {thing: len(set(things[:things.index(thing)])) for thing in things}
+    return tuple((tuple(names.get(thing, -1) for thing in row), label) for row, label in (state, other))
+
+
+def slow_moves(one, other, arrangement):
+    """Return a list with (is_hit, is_hit, arrangement) for each move number."""
+    state, other_state = arrangement
+    found = []
+    for thing in range(len(set(state[0] + other_state[0]) - {-1}) + 1):
+        is_hit, _, then = asked(one, state, thing)
+        is_other_hit, _, other_then = asked(other, other_state, thing)
+        found.append((is_hit, is_other_hit, by_names(then, other_then)))
+    return found
+
+
+def slow_graph(one, other, begin=None):
+    """Return a dict with what slow_moves returns, for all to which an arrangement leads."""
+    begin = begin or (beginning(one), beginning(other))
+    found, left = {}, [begin]
+    while left:
+        at = left.pop()
+        if at not in found:
+            found[at] = slow_moves(one, other, at)
+            left += [then for _, _, then in found[at]]
+    return found
+
+
+def slow_walk(one, other, walk, begin=None):
+    """Return a list with what each move of a walk does, or None if any value is no walk."""
+    at, found = begin or (beginning(one), beginning(other)), []
+    if type(walk) is not tuple:
+        return None
+    for number in walk:
+        moves = slow_moves(one, other, at)
+        if type(number) is not int or not 0 <= number < len(moves):
+            return None
+        found.append(moves[number])
+        at = moves[number][2]
+    return found
+
+
+@functools.lru_cache(None)
+def all_arrangements(one, other):
+    """Return a dict with what slow_moves returns, by the text of each arrangement.
+
+    The text of any value shows what it is, with all kinds.
+    """
+    found = {}
+    for rows in itertools.product(*(itertools.product(range(-1, one[0] + other[0]), repeat=rule[0])
+                                    for rule in (one, other))):
+        if all(row.count(thing) < 2 for row in rows for thing in row if thing >= 0):
+            for labels in itertools.product(range(len(one[1])), range(len(other[1]))):
+                at = tuple(zip(rows, labels))
+                if by_names(*at) == at:
+                    found[repr(at)] = slow_moves(one, other, at)
+    return found
+
+
+def all_walks(one, other, longest):
+    """Yield all walks of up to so many moves, with their moves, the shortest ones first."""
+    graph, row = slow_graph(one, other), [((), [(None, None, (beginning(one), beginning(other)))])]
+    for _ in range(longest + 1):
+        yield from ((walk, moves[1:]) for walk, moves in row)
+        row = [(walk + (number,), moves + [move]) for walk, moves in row
+               for number, move in enumerate(graph[moves[-1][2]])]
+
+
+def slow_round(one, other, way, turns):
+    """Return what slow_walk returns for a round behind a way, or None."""
+    moves = slow_walk(one, other, way)
+    if moves is None:
+        return None
+    at = moves[-1][2] if moves else (beginning(one), beginning(other))
+    told = slow_walk(one, other, turns, at)
+    return told if told and told[-1][2] == at else None
+
+
+def slow_prices(one, other, thing, worth, most=None):
+    """Tell whether any value is prices for what moves are worth, and none above most."""
+    if type(thing) is not tuple or not all(type(pair) is tuple and len(pair) == 2 for pair in thing):
+        return False
+    known, prices = all_arrangements(one, other), {repr(pair[0]): pair[1] for pair in thing}
+    if len(prices) < len(thing) or not set(prices) <= set(known):
+        return False
+    if not all(type(price) is int and (most is None or price <= most) for price in prices.values()):
+        return False
+    if prices.get(repr((beginning(one), beginning(other)))) != 0:
+        return False
+    return all(repr(move[2]) in prices and prices[repr(move[2])] >= prices[at] + worth(move)
+               for at in prices for move in known[at])
 
 
 def kinds(value):

@@ -19,6 +19,9 @@ INTERFACE = {
                "NoWalk NoPath NoAccesses NoText NothingDone TooMany NotNested Pins").split(),
     "rules": "is_rule beginning is_state asked".split(),
     "runs": "is_requests behind kept hits gone misses".split(),
+    "named": "recent queue newest chance tree segments family is_family".split(),
+    "pairs": "start is_arrangement moved walked played arrangements".split(),
+    "nested": "nested shows_nested".split(),
 }
 LIBRARY = {
     "heapq": "heappush heappop heapify heapreplace heappushpop".split(),
