@@ -1,6 +1,11 @@
 """Tests of the kind of any value, for all files of the package."""
 
 
+def is_integer(thing):
+    """Tell whether any value is an integer."""
+    return isinstance(thing, int) and not isinstance(thing, bool)
+
+
 def is_whole(thing, low, high):
     """Tell whether any value is an integer from low to high."""
     # A bool is an int for Python, but never an integer here.

@@ -22,6 +22,10 @@ INTERFACE = {
     "named": "recent queue newest chance tree segments family is_family".split(),
     "pairs": "start is_arrangement moved walked played arrangements".split(),
     "nested": "nested shows_nested".split(),
+    "lists": "family_nested line going shows_going distances curve".split(),
+    "excess": "excess shows_excess".split(),
+    "ratios": "ratio shows_ratio".split(),
+    "alike": "alike shows_alike trimmed".split(),
 }
 LIBRARY = {
     "heapq": "heappush heappop heapify heapreplace heappushpop".split(),
