@@ -35,13 +35,15 @@ def explored(maze, limit):
         at = len(edges)
         found = []
         for turn, one_misses, other_misses, node in maze.ways(nodes[at]):
-            if node not in numbers:
+            then = numbers.get(node)
+            if then is None:
                 if len(nodes) == limit:
                     raise TooMany(limit)
-                numbers[node] = len(nodes)
+                then = len(nodes)
+                numbers[node] = then
                 nodes.append(node)
                 came.append((at, turn))
-            found.append((turn, one_misses, other_misses, numbers[node]))
+            found.append((turn, one_misses, other_misses, then))
         edges.append(found)
     return Chart(nodes, edges, came)
 

@@ -17,7 +17,10 @@ def nesting(one, other):
 
 def is_within(row, other_row):
     """Tell whether everything in a row is in the other one, too."""
-    return all([thing == BLANK or thing in other_row for thing in row])
+    for thing in row:
+        if thing != BLANK and thing not in other_row:
+            return False
+    return True
 
 
 def keeps_all(arrangement):

@@ -16,6 +16,8 @@ class Pair:
         check_rule(other)
         self.one = one
         self.other = other
+        # Rows numbered before, by the rows as they were: many come again and again.
+        self.rows = {}
 
     def first(self):
         """Return the arrangement at first."""
@@ -27,13 +29,17 @@ class Pair:
             return False
         if not has_state(self.one, thing[0]) or not has_state(self.other, thing[1]):
             return False
-        return numbered(thing[0], thing[1]) == thing
+        return numbered(thing[0][0], thing[1][0]) == (thing[0][0], thing[1][0])
 
     def moved(self, node, number):
         """Return what moved returns, for arguments that were checked before."""
-        is_hit, _, state = step(self.one, node[0], number)
-        is_other_hit, _, other_state = step(self.other, node[1], number)
-        return is_hit, is_other_hit, numbered(state, other_state)
+        is_hit, _, (row, label) = step(self.one, node[0], number)
+        is_other_hit, _, (other_row, other_label) = step(self.other, node[1], number)
+        key = row + other_row
+        if key not in self.rows:
+            self.rows[key] = numbered(row, other_row)
+        row, other_row = self.rows[key]
+        return is_hit, is_other_hit, ((row, label), (other_row, other_label))
 
     def ways(self, node):
         """Return a list with what each move number does."""
@@ -60,15 +66,13 @@ def things_of(state, other_state):
     return found
 
 
-def numbered(state, other_state):
-    """Return two states with their things numbered as they come."""
+def numbered(row, other_row):
+    """Return two rows with their things numbered as they come."""
     names = {BLANK: BLANK}
-    for thing in state[0] + other_state[0]:
+    for thing in row + other_row:
         if thing not in names:
             names[thing] = len(names) - 1
-    row = tuple([names[thing] for thing in state[0]])
-    other_row = tuple([names[thing] for thing in other_state[0]])
-    return (row, state[1]), (other_row, other_state[1])
+    return tuple([names[thing] for thing in row]), tuple([names[thing] for thing in other_row])
 
 
 def newest_of(node):

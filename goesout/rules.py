@@ -19,39 +19,72 @@ def is_rule(thing):
     # The length comes first, so that no long tuple is gone through.
     if not 1 <= len(labels) <= MOST_LABELS:
         return False
-    return all([is_label_row(part, places, len(labels)) for part in labels])
+    return are_label_rows(labels, places)
 
 
-def is_label_row(thing, places, many):
-    """Tell whether any value is a label row for so many places and labels."""
-    if not is_row(thing, 3):
+def are_label_rows(labels, places):
+    """Tell whether the parts of a tuple are label rows for so many places."""
+    orders = []
+    last = ()
+    for row in labels:
+        if not is_row(row, 3) or not is_whole(row[1], 0, places - 1):
+            return False
+        for moves in (row[0], row[2]):
+            # What equals moves can differ from them only by bools, and many
+            # rules have the same moves again and again. (As long as there
+            # are no orders, nothing was found right that last could be.)
+            is_new = not orders or moves != last
+            if is_new and not look_like_moves(moves, places, len(labels), orders):
+                return False
+            if hold_bools(moves, places):
+                return False
+            last = moves
+    return True
+
+
+def look_like_moves(thing, places, many, orders):
+    """Tell whether any value is a move for each place, but for bools in it.
+
+    The list orders is of those that were looked at before; new ones join it.
+    """
+    if not isinstance(thing, tuple) or len(thing) != places:
         return False
-    hits, out, comes = thing
-    if not is_whole(out, 0, places - 1):
-        return False
-    return are_moves(hits, places, many) and are_moves(comes, places, many)
+    for move in thing:
+        if not isinstance(move, tuple) or len(move) != 2:
+            return False
+        order, label = move
+        if order not in orders:
+            if not isinstance(order, tuple) or len(order) != places:
+                return False
+            for place in range(places):
+                if place not in order:
+                    return False
+            orders.append(order)
+        if not isinstance(label, int) or not 0 <= label < many:
+            return False
+    return True
 
 
-def are_moves(thing, places, many):
-    """Tell whether any value is a tuple with a move for each place."""
-    return is_row(thing, places) and all([is_move(part, places, many) for part in thing])
+def hold_bools(moves, places):
+    """Tell whether a bool stands for an integer in what else are moves."""
+    if places == MOST_PLACES:
+        return hold_bools_of_four(moves)
+    for order, label in moves:
+        for part in (*order, label):
+            if part is True or part is False:
+                return True
+    return False
 
 
-def is_move(thing, places, many):
-    """Tell whether any value is a move for so many places and labels."""
-    if not is_row(thing, 2):
-        return False
-    order, label = thing
-    return is_order(order, places) and is_whole(label, 0, many - 1)
-
-
-def is_order(thing, places):
-    """Tell whether any value is an order of so many places."""
-    if not is_row(thing, places):
-        return False
-    if not all([is_whole(part, 0, places - 1) for part in thing]):
-        return False
-    return len(set(thing)) == places
+def hold_bools_of_four(moves):
+    """Tell what hold_bools tells, of four places."""
+    # The longest rules have four places; written out, these take half the time.
+    for (a, b, c, d), label in moves:
+        if a is True or a is False or b is True or b is False or c is True or c is False:
+            return True
+        if d is True or d is False or label is True or label is False:
+            return True
+    return False
 
 
 def is_thing(thing):
@@ -94,28 +127,25 @@ def has_state(rule, thing):
         return False
     row, label = thing
     places, labels = rule
-    return is_state_row(row, places) and is_whole(label, 0, len(labels) - 1)
+    return is_whole(label, 0, len(labels) - 1) and is_state_row(row, places)
 
 
 def is_state_row(thing, places):
     """Tell whether any value is a row of different things and blanks."""
-    if not is_row(thing, places):
+    if not isinstance(thing, tuple) or len(thing) != places:
         return False
-    # Blank is the number just below the first thing.
-    if not all([is_whole(part, BLANK, LAST_THING) for part in thing]):
-        return False
-    things = [part for part in thing if part != BLANK]
-    return len(set(things)) == len(things)
+    for part in thing:
+        # Blank is the number just below the first thing.
+        if not isinstance(part, int) or not BLANK <= part <= LAST_THING:
+            return False
+        if part is True or part is False or (part != BLANK and thing.count(part) > 1):
+            return False
+    return True
 
 
 def things_in(row):
     """Return the ascending tuple of the things in the row of a state."""
     return tuple(sorted([part for part in row if part != BLANK]))
-
-
-def arranged(row, order):
-    """Return the row in which place i has what place order[i] had."""
-    return tuple([row[place] for place in order])
 
 
 def asked(rule, state, thing):
@@ -133,9 +163,12 @@ def step(rule, state, thing):
     hits, out, comes = rule[1][label]
     if thing in row:
         order, then = hits[row.index(thing)]
-        return True, None, (arranged(row, order), then)
-    place = row.index(BLANK) if BLANK in row else out
-    gone = row[place] if row[place] != BLANK else None
-    filled = row[:place] + (thing,) + row[place + 1:]
+        return True, None, (tuple([row[place] for place in order]), then)
+    if BLANK in row:
+        place, gone = row.index(BLANK), None
+    else:
+        place, gone = out, row[out]
+    filled = list(row)
+    filled[place] = thing
     order, then = comes[place]
-    return False, gone, (arranged(filled, order), then)
+    return False, gone, (tuple([filled[place] for place in order]), then)

@@ -1,7 +1,7 @@
 """What a rule does with requests, from the state at first on."""
 
 from goesout.errors import NoRequests
-from goesout.rules import beginning, check_rule, is_thing, step, things_in
+from goesout.rules import LAST_THING, begun, check_rule, step, things_in
 
 MOST_REQUESTS = 60
 
@@ -11,7 +11,10 @@ def is_requests(thing):
     # The length comes first, so that no long tuple is gone through.
     if not isinstance(thing, tuple) or len(thing) > MOST_REQUESTS:
         return False
-    return all([is_thing(part) for part in thing])
+    for part in thing:
+        if not isinstance(part, int) or not 0 <= part <= LAST_THING or part is True or part is False:
+            return False
+    return True
 
 
 def check_requests(requests):
@@ -24,7 +27,7 @@ def steps(rule, requests):
     """Return a list with what asked tells of each request."""
     check_rule(rule)
     check_requests(requests)
-    state = beginning(rule)
+    state = begun(rule)
     told = []
     for thing in requests:
         one = step(rule, state, thing)
@@ -36,7 +39,7 @@ def steps(rule, requests):
 def behind(rule, requests):
     """Return the state behind the requests."""
     told = steps(rule, requests)
-    return told[-1][2] if told else beginning(rule)
+    return told[-1][2] if told else begun(rule)
 
 
 def kept(rule, requests):

@@ -35,10 +35,11 @@ def priced(chart, worth):
 
 def spread(chart, worth, prices, came, fresh):
     """Raise the prices of all nodes to which the fresh ones lead; return a list of these."""
+    one_worth, other_worth = worth
     raised = {}
     for at in fresh:
         for turn, one_misses, other_misses, then in chart.edges[at]:
-            price = prices[at] + worth_of(worth, one_misses, other_misses)
+            price = prices[at] + one_worth * one_misses + other_worth * other_misses
             if prices[then] is None or prices[then] < price:
                 prices[then] = price
                 came[then] = (at, turn)

@@ -17,8 +17,10 @@ def plain(places, out, come, hit=None):
 
 FRONT_2 = ((0, 1), (1, 0))
 FRONT_3 = ((0, 1, 2), (1, 0, 2), (2, 0, 1))
+FRONT_4 = ((0, 1, 2, 3), (1, 0, 2, 3), (2, 0, 1, 3), (3, 0, 1, 2))
 STAY_2 = ((0, 1),) * 2
 STAY_3 = ((0, 1, 2),) * 3
+STAY_4 = ((0, 1, 2, 3),) * 4
 
 ONE = plain(1, 0, ((0,),))
 RECENT_2 = plain(2, 1, FRONT_2)

@@ -12,12 +12,10 @@ from goesout.named import chance, family, is_family, newest, queue, recent, segm
 from goesout.rules import asked, beginning, is_rule
 from goesout.runs import gone, hits, kept, misses
 from tests.samples import (
-    FRONT_2, FRONT_3, MIXED, NEWEST_2, ODD, ONE, QUEUE_2, QUEUE_3, RECENT_2, RECENT_3, STAY_2, STAY_3,
-    WRONG_PARTS, Case, nested_deep, plain, replaced, reshaped,
+    FRONT_2, FRONT_3, FRONT_4, MIXED, NEWEST_2, ODD, ONE, QUEUE_2, QUEUE_3, RECENT_2, RECENT_3, STAY_2, STAY_3,
+    STAY_4, WRONG_PARTS, Case, nested_deep, plain, replaced, reshaped,
 )
 
-FRONT_4 = ((0, 1, 2, 3), (1, 0, 2, 3), (2, 0, 1, 3), (3, 0, 1, 2))
-STAY_4 = ((0, 1, 2, 3),) * 4
 OF_PLACES = (recent, queue, newest, chance)
 NO_PLACES = (0, -1, 5, 100, True, False, None, "2", "", (2,), [2], {2: 2}, (), 10 ** 12, recent)
 SEGMENTS = ((1, 1), (1, 2), (2, 1), (1, 3), (2, 2), (3, 1))

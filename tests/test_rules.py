@@ -9,8 +9,8 @@ from goesout import rules
 from goesout.errors import GoesError, NoRule, NoState, NoThing
 from goesout.rules import asked, beginning, is_rule, is_state
 from tests.samples import (
-    BACK, FRONT_2, MIXED, NARROW, NEWEST_2, ODD, ONE, QUEUE_2, RECENT_2, RECENT_3, RULES, STAY, TURN,
-    WIDE, WRONG_PARTS, Case, nested_deep, plain, replaced, reshaped,
+    BACK, FRONT_2, FRONT_4, MIXED, NARROW, NEWEST_2, ODD, ONE, QUEUE_2, RECENT_2, RECENT_3, RULES, STAY,
+    TURN, WIDE, WRONG_PARTS, Case, nested_deep, plain, replaced, reshaped,
 )
 
 MOVE_2 = ((0, 1), 0)
@@ -41,6 +41,45 @@ def asked_slowly(rule, state, thing):
     for new, old in enumerate(order):
         then[new] = at[old]
     return (bool(found), lost, (tuple(then[place] for place in range(places)), label_then))
+
+
+def is_rule_slowly(thing):
+    """Return what is_rule returns, found part by part as the document says it."""
+    if type(thing) is not tuple or len(thing) != 2:
+        return False
+    places, labels = thing
+    if type(places) is not int or not 1 <= places <= 4:
+        return False
+    if type(labels) is not tuple or not 1 <= len(labels) <= 16:
+        return False
+    for row in labels:
+        if type(row) is not tuple or len(row) != 3:
+            return False
+        if type(row[1]) is not int or not 0 <= row[1] < places:
+            return False
+        for moves in (row[0], row[2]):
+            if type(moves) is not tuple or len(moves) != places:
+                return False
+            for move in moves:
+                if type(move) is not tuple or len(move) != 2 or type(move[0]) is not tuple:
+                    return False
+                if type(move[1]) is not int or not 0 <= move[1] < len(labels):
+                    return False
+                if any(type(place) is not int for place in move[0]) or sorted(move[0]) != list(range(places)):
+                    return False
+    return True
+
+
+def copied(value):
+    """Return an equal value that shares no tuple with it."""
+    return tuple([copied(part) for part in value]) if isinstance(value, tuple) else value
+
+
+# The same moves in all label rows, as they are or as copies of them.
+LONG_MOVES = tuple((order, (place + 1) % 5) for place, order in enumerate(FRONT_4))
+LONG = (4, ((LONG_MOVES, 3, LONG_MOVES),) * 5)
+AGAIN = (ONE, (1, ONE[1] * 3), (2, RECENT_2[1] * 4), (2, QUEUE_2[1] * 2), (3, RECENT_3[1] * 2), MIXED, LONG,
+         (4, WIDE[1][:1] * 16))
 
 
 class IsRuleTest(Case):
@@ -109,6 +148,29 @@ class IsRuleTest(Case):
         self.assertIs(is_rule(plain(2, 1, FRONT_2, ((0, 1), (True, 0)))), False)
         self.assertIs(is_rule((1, (((((0,), False),), 0, (((0,), 0),)),))), False)
         self.assertIs(is_rule((1, (((((0,), 0),), 0, (((0,), False),)),))), False)
+
+    def test_any_part_and_shape_among_equal_moves(self):
+        # What equals something that was right before is looked at all the same.
+        for rule in AGAIN + tuple(copied(rule) for rule in AGAIN):
+            self.assertIs(is_rule(rule), True)
+            values = [value for wrong in (True, False, None, [0], (0,), (1, 0), -1, 1, 0, 2)
+                      for value in replaced(rule, wrong)] + reshaped(rule)
+            for value in values:
+                self.assertIs(is_rule(value), is_rule_slowly(value))
+
+    def test_bools_for_each_integer_alone(self):
+        for rule in AGAIN + (WIDE, NARROW):
+            ones = [value for value in replaced(rule, True) if value == rule]
+            zeros = [value for value in replaced(rule, False) if value == rule]
+            self.assertGreater(len(zeros), 3)
+            self.assertGreater(len(ones), 0)
+            for value in ones + zeros:
+                self.assertIs(is_rule(value), False)
+
+    def test_an_empty_tuple_in_the_place_of_moves(self):
+        for rule in AGAIN:
+            for value in replaced(rule, ()):
+                self.assertIs(is_rule(value), False)
 
     def test_any_tuple_of_another_shape(self):
         for value in reshaped(NARROW):
