@@ -53,7 +53,8 @@ def trimmed(rule):
     firsts = [0]
     done = 0
     while done < len(firsts):
-        for label in labels_in(rows[firsts[done]]):
+        named = labels_in(rows[firsts[done]])
+        for label in named:
             if same[label] not in numbers:
                 numbers[same[label]] = len(firsts)
                 firsts.append(label)

@@ -7,9 +7,6 @@ from goesout.nested import is_within, nested
 from goesout.rules import BLANK, LAST_THING, begun, step
 from goesout.runs import check_requests
 
-# No request asks for this, so it does what any new thing would do.
-NEW_THING = LAST_THING + 1
-
 
 def family_nested(family):
     """Return ("nested",) or ("apart", places, walk)."""
@@ -81,9 +78,10 @@ def shows_going(family, requests, thing):
 def things_ahead(family, requests):
     """Return for each thing of the line what has to stand ahead of it in a list of what goes."""
     states = all_states(family, requests)[-1]
-    # There is such a list if new things leave the caches nested: all other
-    # things that a cache misses are in greater ones, and let the same go.
-    asked_of_all(family, states, NEW_THING, len(requests) + 1)
+    # There is such a list if a new thing, such as this one that no request
+    # asks for, leaves the caches nested. What else a cache misses is in some
+    # greater one, and lets the same thing go.
+    asked_of_all(family, states, LAST_THING + 1, len(requests) + 1)
     found = {thing: () for thing in line_of(states)}
     for rule, (row, label) in zip(family, states):
         if BLANK not in row:

@@ -33,8 +33,9 @@ def explored(maze, limit):
     numbers = {nodes[0]: 0}
     while len(edges) < len(nodes):
         at = len(edges)
+        ways = maze.ways(nodes[at])
         found = []
-        for turn, one_misses, other_misses, node in maze.ways(nodes[at]):
+        for turn, one_misses, other_misses, node in ways:
             then = numbers.get(node)
             if then is None:
                 if len(nodes) == limit:

@@ -1,10 +1,12 @@
 """Rules, wrong values, slow ways to find things, and a comparison that several tests use."""
 
+import copy
 import functools
 import itertools
 import random
 import unittest
 
+from goesout.errors import GoesError, NoRule, TooMany
 from goesout.rules import asked, beginning
 
 
@@ -27,6 +29,7 @@ RECENT_2 = plain(2, 1, FRONT_2)
 RECENT_3 = plain(3, 2, FRONT_3)
 QUEUE_2 = plain(2, 1, FRONT_2, STAY_2)
 QUEUE_3 = plain(3, 2, FRONT_3, STAY_3)
+QUEUE_4 = plain(4, 3, FRONT_4, STAY_4)
 NEWEST_2 = plain(2, 0, FRONT_2)
 
 # Each move has an order of its own that is not its own reverse, or a label
@@ -260,3 +263,46 @@ class Case(unittest.TestCase):
     def assert_same(self, found, expected):
         """Equal, and of the same kinds throughout."""
         self.assertEqual(kinds(found), kinds(expected))
+
+    def assert_unmodified(self, value, calls):
+        """None of the calls, which may be refused, modifies the value."""
+        before = copy.deepcopy(value)
+        for call in calls:
+            try:
+                call()
+            except GoesError:
+                pass
+            self.assert_same(value, before)
+
+    def assert_shows(self, shows, slow_shows, one, other, good):
+        """What shows a thing and what is like it, with wrong parts and shapes, is told apart.
+
+        slow_shows tells it by another way than the program.
+        """
+        self.assertIs(shows(one, other, good), True)
+        values = [value for wrong in WRONG_PARTS for value in replaced(good, wrong)] + reshaped(good)
+        self.assertGreater(len(values), 50)
+        for value in values:
+            self.assertIs(shows(one, other, value), slow_shows(one, other, value))
+        for value in replaced(good, False) + replaced(good, True):
+            self.assertIs(shows(one, other, value), False)
+
+    def assert_rules_first(self, function, shows):
+        """What is no rule, in the place of either one, is refused ahead of all else."""
+        for value in ODD + (nested_deep(20),):
+            for one, other in ((value, ONE), (ONE, value), (QUEUE_3, value), (value, value)):
+                self.assertRaises(NoRule, function, one, other)
+                self.assertRaises(NoRule, shows, one, other, value)
+        for value in replaced(NEWEST_2, True):
+            self.assertRaises(NoRule, function, QUEUE_2, value)
+            self.assertRaises(NoRule, shows, value, ONE, None)
+        self.assertRaises(NoRule, function, WIDE, None)
+
+    def assert_too_many(self, function):
+        """All arrangements are counted ahead of all else that is looked for."""
+        for one, other in ((QUEUE_4, made_rule(4, 16, 1)), (QUEUE_4, made_rule(4, 9, 273))):
+            with self.assertRaises(TooMany) as caught:
+                function(one, other)
+            self.assert_same(caught.exception.limit, 2000)
+        # These two have 2,000.
+        self.assertIn(function(QUEUE_4, made_rule(4, 9, 443))[0], ("apart", "ever", "ratio"))

@@ -1,21 +1,19 @@
 """Tests of goesout.alike: points 2, 3, 53 and 90."""
 
 import copy
-import inspect
 import itertools
 import random
 import unittest
 
-from goesout import alike as module
 from goesout.alike import alike, shows_alike, trimmed
-from goesout.errors import GoesError, NoRule, TooMany
-from goesout.named import chance, newest, queue, recent, segments, tree
+from goesout.errors import NoRule
+from goesout.named import chance, newest, recent, segments, tree
 from goesout.pairs import arrangements, start
 from goesout.rules import is_rule
 from goesout.runs import behind, hits
 from tests.samples import (
-    MIXED, NARROW, NEWEST_2, ODD, ONE, PAIRS, QUEUE_2, QUEUE_3, RECENT_2, RECENT_3, RULES, WIDE, WRONG_PARTS, Case,
-    all_arrangements, all_walks, by_turns, in_time, made_rule, nested_deep, replaced, reshaped, slow_graph, slow_walk,
+    MIXED, NARROW, NEWEST_2, ODD, ONE, PAIRS, QUEUE_2, QUEUE_3, RECENT_2, RECENT_3, RULES, WIDE, Case,
+    all_arrangements, all_walks, by_turns, in_time, made_rule, nested_deep, replaced, slow_graph, slow_walk,
 )
 
 APART = ("apart", (0, 1, 1, 2, 1))
@@ -131,11 +129,7 @@ class AlikeTest(Case):
             self.assertEqual(alike(rule, rule)[0], "alike")
 
     def test_too_many(self):
-        for one, other in ((queue(4), made_rule(4, 16, 1)), (queue(4), made_rule(4, 9, 273))):
-            with self.assertRaises(TooMany) as caught:
-                alike(one, other)
-            self.assert_same(caught.exception.limit, 2000)
-        self.assertEqual(alike(queue(4), made_rule(4, 9, 443))[0], "apart")
+        self.assert_too_many(alike)
 
 
 class ShowsTest(Case):
@@ -204,13 +198,7 @@ class ShowsTest(Case):
 
     def test_wrong_parts_and_shapes(self):
         for one, other in (QUEUE_RECENT, (ONE, ONE), (RECENT_2, (2, RECENT_2[1] * 3)), (ONE, QUEUE_2)):
-            good = alike(one, other)
-            values = [value for wrong in WRONG_PARTS for value in replaced(good, wrong)] + reshaped(good)
-            self.assertGreater(len(values), 50)
-            for value in values:
-                self.assertIs(shows_alike(one, other, value), slow_shows(one, other, value))
-            for value in replaced(good, False) + replaced(good, True):
-                self.assertIs(shows_alike(one, other, value), False)
+            self.assert_shows(shows_alike, slow_shows, one, other, alike(one, other))
 
 
 class TrimmedTest(Case):
@@ -316,25 +304,9 @@ class TrimmedTest(Case):
             self.assertRaises(NoRule, trimmed, value)
 
 
-class WrongTest(Case):
-    def test_no_rule(self):
-        for value in ODD + (nested_deep(20),):
-            for one, other in ((value, ONE), (ONE, value), (value, value)):
-                self.assertRaises(NoRule, alike, one, other)
-                self.assertRaises(NoRule, shows_alike, one, other, value)
-        for value in replaced(NEWEST_2, True):
-            self.assertRaises(NoRule, alike, QUEUE_2, value)
-            self.assertRaises(NoRule, shows_alike, value, ONE, APART)
-        self.assertRaises(NoRule, alike, WIDE, None)
-
-
 class GeneralTest(Case):
-    def test_names_of_the_arguments(self):
-        for name, expected in (("alike", ["one", "other"]), ("shows_alike", ["one", "other", "thing"]),
-                               ("trimmed", ["rule"])):
-            function = getattr(module, name)
-            self.assertEqual(list(inspect.signature(function).parameters), expected)
-            self.assertEqual(function.__module__, "goesout.alike")
+    def test_no_rule(self):
+        self.assert_rules_first(alike, shows_alike)
 
     def test_by_name(self):
         self.assertEqual(alike(other=RECENT_2, one=QUEUE_2), APART)
@@ -343,14 +315,9 @@ class GeneralTest(Case):
 
     def test_nothing_is_modified(self):
         for value in ODD + PAIRS[:6] + RULES + (APART, list(APART), alike(ONE, ONE)):
-            before = copy.deepcopy(value)
-            for call in (lambda: alike(value, ONE), lambda: alike(ONE, value), lambda: trimmed(value),
-                         lambda: shows_alike(*QUEUE_RECENT, value), lambda: shows_alike(ONE, ONE, value)):
-                try:
-                    call()
-                except GoesError:
-                    pass
-                self.assert_same(value, before)
+            self.assert_unmodified(value, (
+                lambda: alike(value, ONE), lambda: alike(ONE, value), lambda: trimmed(value),
+                lambda: shows_alike(*QUEUE_RECENT, value), lambda: shows_alike(ONE, ONE, value)))
 
     def test_again_gives_the_same(self):
         for one, other in PAIRS_HERE:

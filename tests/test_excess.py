@@ -1,21 +1,17 @@
 """Tests of goesout.excess: points 2, 3, 50, 51 and 90."""
 
 import copy
-import inspect
 import itertools
 import unittest
 
-from goesout import excess as module
-from goesout.errors import GoesError, NoRule, TooMany
 from goesout.excess import excess, shows_excess
 from goesout.named import chance, family, newest, queue, recent, tree
 from goesout.nested import nested
 from goesout.pairs import arrangements, played, start
 from goesout.runs import misses
 from tests.samples import (
-    LATE_PAIRS, MIXED, NEWEST_2, ODD, ONE, PAIRS, QUEUE_2, QUEUE_3, RECENT_2, RECENT_3, WIDE, WRONG_PARTS, Case,
-    all_arrangements, all_walks, made_rule, nested_deep, replaced, reshaped, slow_graph, slow_prices, slow_round,
-    slow_walk,
+    LATE_PAIRS, MIXED, NEWEST_2, ODD, ONE, PAIRS, QUEUE_2, QUEUE_3, QUEUE_4, RECENT_2, RECENT_3, WIDE, Case,
+    all_arrangements, all_walks, made_rule, nested_deep, slow_graph, slow_prices, slow_round, slow_walk,
 )
 
 RECENTS = (RECENT_2, RECENT_3)
@@ -139,12 +135,9 @@ class ExcessTest(Case):
         self.assertEqual(excess(queue(3), recent(3))[0], "ever")
 
     def test_too_many(self):
-        for one, other in ((queue(4), made_rule(4, 16, 1)), (queue(4), made_rule(4, 9, 273))):
-            with self.assertRaises(TooMany) as caught:
-                excess(one, other)
-            self.assert_same(caught.exception.limit, 2000)
-        told = excess(queue(4), made_rule(4, 9, 443))
-        self.assertIs(shows_excess(queue(4), made_rule(4, 9, 443), told), True)
+        self.assert_too_many(excess)
+        told = excess(QUEUE_4, made_rule(4, 9, 443))
+        self.assertIs(shows_excess(QUEUE_4, made_rule(4, 9, 443), told), True)
 
 
 class ShowsTest(Case):
@@ -257,33 +250,12 @@ class ShowsTest(Case):
 
     def test_wrong_parts_and_shapes(self):
         for one, other in (RECENTS, (ONE, QUEUE_2), LATE_PAIRS[3], (RECENT_2, ONE)):
-            good = excess(one, other)
-            values = [value for wrong in WRONG_PARTS for value in replaced(good, wrong)] + reshaped(good)
-            self.assertGreater(len(values), 50)
-            for value in values:
-                self.assertIs(shows_excess(one, other, value), slow_shows(one, other, value))
-            for value in replaced(good, False) + replaced(good, True):
-                self.assertIs(shows_excess(one, other, value), False)
-
-
-class WrongTest(Case):
-    def test_no_rule(self):
-        for value in ODD + (nested_deep(20),):
-            for one, other in ((value, ONE), (ONE, value), (value, value)):
-                self.assertRaises(NoRule, excess, one, other)
-                self.assertRaises(NoRule, shows_excess, one, other, value)
-        for value in replaced(NEWEST_2, True):
-            self.assertRaises(NoRule, excess, QUEUE_2, value)
-            self.assertRaises(NoRule, shows_excess, value, ONE, ("most", 0, (), ()))
-        self.assertRaises(NoRule, excess, WIDE, None)
+            self.assert_shows(shows_excess, slow_shows, one, other, excess(one, other))
 
 
 class GeneralTest(Case):
-    def test_names_of_the_arguments(self):
-        for name, expected in (("excess", ["one", "other"]), ("shows_excess", ["one", "other", "thing"])):
-            function = getattr(module, name)
-            self.assertEqual(list(inspect.signature(function).parameters), expected)
-            self.assertEqual(function.__module__, "goesout.excess")
+    def test_no_rule(self):
+        self.assert_rules_first(excess, shows_excess)
 
     def test_by_name(self):
         self.assertEqual(excess(other=RECENT_3, one=RECENT_2), excess(*RECENTS))
@@ -291,14 +263,9 @@ class GeneralTest(Case):
 
     def test_nothing_is_modified(self):
         for value in ODD + PAIRS[:6] + (excess(*RECENTS), list(excess(*RECENTS)), excess(RECENT_2, ONE)):
-            before = copy.deepcopy(value)
-            for call in (lambda: excess(value, ONE), lambda: excess(ONE, value),
-                         lambda: shows_excess(*RECENTS, value), lambda: shows_excess(RECENT_2, ONE, value)):
-                try:
-                    call()
-                except GoesError:
-                    pass
-                self.assert_same(value, before)
+            self.assert_unmodified(value, (
+                lambda: excess(value, ONE), lambda: excess(ONE, value), lambda: shows_excess(*RECENTS, value),
+                lambda: shows_excess(RECENT_2, ONE, value)))
 
     def test_again_gives_the_same(self):
         for one, other in ALL_PAIRS:

@@ -13,19 +13,13 @@ import tokenize
 import unittest
 import warnings
 
+from tests.test_interface import INTERFACE
+
 PACKAGE = pathlib.Path(__file__).resolve().parent.parent / "goesout"
-INTERFACE = {
+DEFINED = {
     "errors": ("GoesError NoRule NoPlaces NoState NoThing NoRequests NoFamily NoArrangement NoNumber "
                "NoWalk NoPath NoAccesses NoText NothingDone TooMany NotNested Pins").split(),
-    "rules": "is_rule beginning is_state asked".split(),
-    "runs": "is_requests behind kept hits gone misses".split(),
-    "named": "recent queue newest chance tree segments family is_family".split(),
-    "pairs": "start is_arrangement moved walked played arrangements".split(),
-    "nested": "nested shows_nested".split(),
-    "lists": "family_nested line going shows_going distances curve".split(),
-    "excess": "excess shows_excess".split(),
-    "ratios": "ratio shows_ratio".split(),
-    "alike": "alike shows_alike trimmed".split(),
+    **{file: list(functions) for file, functions in INTERFACE.items()},
 }
 LIBRARY = {
     "heapq": "heappush heappop heapify heapreplace heappushpop".split(),
@@ -292,7 +286,7 @@ class FormTest(unittest.TestCase):
         self.assertIn("__init__", self.files)
 
     def test_the_interface_is_defined_where_it_is_listed(self):
-        for name, expected in INTERFACE.items():
+        for name, expected in DEFINED.items():
             defined = {node.name for node in self.trees[name].body
                        if isinstance(node, (ast.FunctionDef, ast.ClassDef))}
             self.assertEqual(set(expected) - defined, set())

@@ -1,13 +1,10 @@
 """Tests of goesout.lists: points 2, 3, 40, 41, 42 and 90."""
 
-import copy
-import inspect
 import itertools
 import random
 import unittest
 
-from goesout import lists
-from goesout.errors import GoesError, NoFamily, NoRequests, NotNested, TooMany
+from goesout.errors import NoFamily, NoRequests, NotNested, TooMany
 from goesout.lists import curve, distances, family_nested, going, line, shows_going
 from goesout.named import chance, family, newest, queue, recent, segments
 from goesout.nested import nested, shows_nested
@@ -15,7 +12,7 @@ from goesout.pairs import played
 from goesout.rules import asked
 from goesout.runs import behind, hits, kept, misses
 from tests.samples import (
-    MIXED, ODD, ONE, QUEUE_2, RECENT_2, WRONG_PARTS, Case, by_turns, made_rule, nested_deep, replaced, reshaped,
+    MIXED, ODD, ONE, QUEUE_2, RECENT_2, WRONG_PARTS, Case, by_turns, made_rule, nested_deep, replaced,
 )
 
 RECENTS, NEWESTS, QUEUES = family(recent, 4), family(newest, 4), family(queue, 4)
@@ -236,11 +233,18 @@ class GoingTest(Case):
             self.assert_same(caught.exception.at, 61)
         self.assertEqual(line(rules, requests), (0, 2, 1))
 
+    def test_one_more_whatever_was_asked_for(self):
+        for first, second, third in itertools.permutations((97, 98, 99, 0, 1), 3):
+            for function in (going, lambda rules, requests: shows_going(rules, requests, ())):
+                with self.assertRaises(NotNested) as caught:
+                    function(QUEUES[:3], (first, second, third, first))
+                self.assert_same(caught.exception.at, 5)
+
     def test_wrong_lists(self):
         requests = (4, 0, 1, 3)
         self.assertEqual(going(RECENTS, requests), (3, 1, 0, 4))
-        for value in ODD + ((3, 1, 0), (3, 1, 0, 4, 4), (3, 1, 0, 4, 5), (3, 1, 0, 0), (3, 3, 1, 0, 4), (),
-                            (3, True, 0, 4), (3, 1, False, 4), (3, 1, 0, None), (3, 1, 0, (4,)), [3, 1, 0, 4],
+        for value in ODD + ((3, 1, 0), (3, 1, 0, 4, 4), (3, 1, 0, 4, 5), (3, 1, 0, 0), (3, 1, 0, 5),
+                            (5, 1, 0, 4), (3, 3, 1, 0, 4), (), (3, True, 0, 4), (3, 1, False, 4), (3, 1, 0, None), (3, 1, 0, (4,)), [3, 1, 0, 4],
                             (3, 1, 0, [4]), (3, 1, 0, {4: 4}), (3, 1, 0, "4"), (3, 1, 0, 100), (3, 1, 0, -1),
                             ((3, 1, 0, 4),), nested_deep(20), (4,) * 20000):
             self.assertIs(shows_going(RECENTS, requests, value), False)
@@ -318,15 +322,6 @@ class WrongTest(Case):
 
 
 class GeneralTest(Case):
-    def test_names_of_the_arguments(self):
-        names = {"family_nested": ["family"], "shows_going": ["family", "requests", "thing"]}
-        for name in ("line", "going", "distances", "curve"):
-            names[name] = ["family", "requests"]
-        for name, expected in names.items():
-            function = getattr(lists, name)
-            self.assertEqual(list(inspect.signature(function).parameters), expected)
-            self.assertEqual(function.__module__, "goesout.lists")
-
     def test_by_name(self):
         self.assertEqual(family_nested(family=QUEUES), family_nested(QUEUES))
         for function in OF_REQUESTS:
@@ -335,16 +330,10 @@ class GeneralTest(Case):
 
     def test_nothing_is_modified(self):
         for value in ODD + (QUEUES, RECENTS, list(RECENTS), (3, 4, 3), [3, 4]):
-            before = copy.deepcopy(value)
-            calls = [lambda: family_nested(value), lambda: shows_going(RECENTS, (3, 4), value)]
-            for function in OF_REQUESTS:
-                calls += [lambda: function(value, (3, 4)), lambda: function(RECENTS, value)]
-                for call in calls:
-                    try:
-                        call()
-                    except GoesError:
-                        pass
-                    self.assert_same(value, before)
+            self.assert_unmodified(value, (
+                lambda: family_nested(value), lambda: shows_going(RECENTS, (3, 4), value),
+                lambda: going(value, (3, 4)), lambda: going(RECENTS, value), lambda: line(value, (3, 4)),
+                lambda: distances(RECENTS, value), lambda: curve(value, (3, 4)), lambda: curve(RECENTS, value)))
 
     def test_again_gives_the_same(self):
         for rules in NESTED:
@@ -353,6 +342,17 @@ class GeneralTest(Case):
                 self.assertRaises(NotNested, line, QUEUES, (0, 1, 2, 0, 3))
                 self.assert_same([function(rules, requests) for function in OF_REQUESTS], first)
             self.assert_same(family_nested(rules), family_nested(rules))
+
+    def test_renaming_things_changes_only_names(self):
+        names = {thing: (thing * 37 + 5) % 100 for thing in range(100)}
+        for rules in NESTED:
+            for requests in REQUESTS[:24]:
+                other = tuple(names[thing] for thing in requests)
+                self.assertEqual(line(rules, other), tuple(names[thing] for thing in line(rules, requests)))
+                self.assertEqual(distances(rules, other), distances(rules, requests))
+                self.assertEqual(curve(rules, other), curve(rules, requests))
+                self.assertIs(shows_going(rules, other, tuple(names[thing] for thing in going(rules, requests))),
+                              True)
 
     def test_what_apart_tells_is_shown(self):
         for rules in OTHERS:

@@ -1,12 +1,10 @@
 """Tests of goesout.named: points 2, 3, 20, 21, 22 and 90."""
 
 import copy
-import inspect
 import itertools
 import random
 import unittest
 
-from goesout import named
 from goesout.errors import NoPlaces, NoRule
 from goesout.named import chance, family, is_family, newest, queue, recent, segments, tree
 from goesout.rules import asked, beginning, is_rule
@@ -312,15 +310,6 @@ class FamilyTest(Case):
 
 
 class GeneralTest(Case):
-    def test_names_of_the_arguments(self):
-        names = {"recent": ["places"], "queue": ["places"], "newest": ["places"], "chance": ["places"],
-                 "tree": ["places"], "segments": ["trial", "tried"], "family": ["rule_of", "most"],
-                 "is_family": ["thing"]}
-        for name, expected in names.items():
-            function = getattr(named, name)
-            self.assertEqual(list(inspect.signature(function).parameters), expected)
-            self.assertEqual(function.__module__, "goesout.named")
-
     def test_by_name(self):
         for make in OF_PLACES + (tree,):
             self.assertEqual(make(places=2), make(2))
@@ -339,12 +328,8 @@ class GeneralTest(Case):
 
     def test_nothing_is_modified(self):
         for value in ODD + ([ONE], (ONE, RECENT_2), nested_deep(20)):
-            before = copy.deepcopy(value)
-            is_family(value)
-            self.assertRaises(NoRule, family, value, 1)
-            self.assertRaises(NoPlaces, family, queue, value)
-            self.assert_same(value, before)
-
+            self.assert_unmodified(value, (
+                lambda: is_family(value), lambda: family(value, 1), lambda: family(queue, value)))
 
 
 if __name__ == "__main__":

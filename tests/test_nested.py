@@ -1,18 +1,16 @@
 """Tests of goesout.nested: points 1, 2, 3, 31 and 90."""
 
 import copy
-import inspect
 import itertools
 import unittest
 
-from goesout import nested as module
-from goesout.errors import GoesError, NoPlaces, NoRule, TooMany
+from goesout.errors import NoPlaces, TooMany
 from goesout.named import chance, family, newest, queue, recent, segments, tree
 from goesout.nested import nested, shows_nested
 from goesout.pairs import arrangements, start
 from tests.samples import (
-    MIXED, NEWEST_2, ODD, ONE, PAIRS, QUEUE_2, QUEUE_3, RECENT_2, RECENT_3, WIDE, WRONG_PARTS, Case,
-    all_arrangements, all_walks, made_rule, nested_deep, replaced, reshaped, slow_graph, slow_moves, slow_walk,
+    MIXED, ODD, ONE, PAIRS, QUEUE_2, QUEUE_3, RECENT_2, RECENT_3, WIDE, Case, all_arrangements, all_walks,
+    made_rule, nested_deep, slow_graph, slow_moves, slow_walk,
 )
 
 QUEUES = (QUEUE_2, QUEUE_3)
@@ -108,16 +106,11 @@ class NestedTest(Case):
                 self.assertRaises(NoPlaces, shows_nested, one, other, None)
 
     def test_too_many(self):
+        self.assert_too_many(nested)
         for one, other in LARGE:
             # They come apart early, but all arrangements are counted first.
             self.assertIs(shows_nested(one, other, nested_walk(one, other)), True)
-            with self.assertRaises(TooMany) as caught:
-                nested(one, other)
-            self.assert_same(caught.exception.limit, 2000)
-
-    def test_the_limit(self):
-        self.assertEqual(nested(queue(4), made_rule(4, 9, 443))[0], "apart")
-        self.assertRaises(TooMany, nested, queue(4), made_rule(4, 9, 273))
+            self.assertRaises(TooMany, nested, one, other)
 
 
 def nested_walk(one, other):
@@ -158,6 +151,9 @@ class ShowsTest(Case):
         self.assertGreater(len(all_of_them), len(told))
         self.assertTrue(all(keeps(at) for at in all_of_them))
         self.assertIs(shows_nested(*RECENTS, (word, all_of_them)), True)
+        # Blanks are nothing that the second row would have to have.
+        blanks = ((((-1, 0), 0), ((0, 1, 2), 0)), (((0, -1), 0), ((0, 1, 2), 0)))
+        self.assertIs(shows_nested(*RECENTS, (word, told + blanks)), True)
         # One that leads to others, one whose own rows are not as told.
         self.assertIs(shows_nested(*RECENTS, (word, told + ((((0, 1), 0), ((1, 0, -1), 0)),))), False)
         self.assertIs(shows_nested(*RECENTS, (word, told + ((((0, -1), 0), ((1, 2, 3), 0)),))), False)
@@ -194,36 +190,17 @@ class ShowsTest(Case):
                 self.assertIs(shows_nested(one, other, value), False)
 
     def test_wrong_parts_and_shapes(self):
-        for one, other, good in ((*QUEUES, APART), (*RECENTS, nested(*RECENTS)), (ONE, MIXED, nested(ONE, MIXED))):
-            values = [value for wrong in WRONG_PARTS for value in replaced(good, wrong)] + reshaped(good)
-            self.assertGreater(len(values), 80)
-            for value in values:
-                self.assertIs(shows_nested(one, other, value), slow_shows(one, other, value))
-        for value in replaced(nested(*RECENTS), False) + replaced(APART, True):
-            self.assertIs(shows_nested(*RECENTS, value), False)
-
-
-class WrongTest(Case):
-    def test_no_rule(self):
-        for value in ODD + (nested_deep(20),):
-            for one, other in ((value, ONE), (ONE, value), (QUEUE_3, value), (value, value)):
-                self.assertRaises(NoRule, nested, one, other)
-                self.assertRaises(NoRule, shows_nested, one, other, value)
-        for value in replaced(NEWEST_2, True):
-            # A rule with True places is no rule, rather than one with fewer.
-            self.assertRaises(NoRule, nested, QUEUE_2, value)
-            self.assertRaises(NoRule, shows_nested, value, ONE, APART)
-
-    def test_which_error_comes_first(self):
-        self.assertRaises(NoPlaces, nested, made_rule(4, 16, 4), made_rule(3, 16, 3))
+        for one, other in (QUEUES, RECENTS, (ONE, MIXED)):
+            self.assert_shows(shows_nested, slow_shows, one, other, nested(one, other))
 
 
 class GeneralTest(Case):
-    def test_names_of_the_arguments(self):
-        for name, expected in (("nested", ["one", "other"]), ("shows_nested", ["one", "other", "thing"])):
-            function = getattr(module, name)
-            self.assertEqual(list(inspect.signature(function).parameters), expected)
-            self.assertEqual(function.__module__, "goesout.nested")
+    def test_no_rule(self):
+        # A rule with True places is no rule, rather than one with fewer.
+        self.assert_rules_first(nested, shows_nested)
+
+    def test_which_error_comes_first(self):
+        self.assertRaises(NoPlaces, nested, made_rule(4, 16, 4), made_rule(3, 16, 3))
 
     def test_by_name(self):
         self.assertEqual(nested(other=QUEUE_3, one=QUEUE_2), APART)
@@ -231,14 +208,9 @@ class GeneralTest(Case):
 
     def test_nothing_is_modified(self):
         for value in ODD + PAIRS[:9] + (APART, list(APART), nested(*RECENTS), [nested(*RECENTS)]):
-            before = copy.deepcopy(value)
-            for call in (lambda: nested(value, QUEUE_3), lambda: nested(ONE, value),
-                         lambda: shows_nested(*QUEUES, value), lambda: shows_nested(*RECENTS, value)):
-                try:
-                    call()
-                except GoesError:
-                    pass
-                self.assert_same(value, before)
+            self.assert_unmodified(value, (
+                lambda: nested(value, QUEUE_3), lambda: nested(ONE, value),
+                lambda: shows_nested(*QUEUES, value), lambda: shows_nested(*RECENTS, value)))
 
     def test_again_gives_the_same(self):
         for one, other in ALLOWED:

@@ -1,13 +1,11 @@
 """Tests of goesout.pairs: points 1, 2, 3, 30 and 90."""
 
 import copy
-import inspect
 import itertools
 import random
 import unittest
 
-from goesout import pairs
-from goesout.errors import GoesError, NoArrangement, NoNumber, NoRule, NoWalk, TooMany
+from goesout.errors import NoArrangement, NoNumber, NoRule, NoWalk, TooMany
 from goesout.named import queue, recent
 from goesout.pairs import arrangements, is_arrangement, moved, played, start, walked
 from goesout.rules import asked, beginning
@@ -255,14 +253,6 @@ class WrongTest(Case):
 
 
 class GeneralTest(Case):
-    def test_names_of_the_arguments(self):
-        names = {"start": [], "is_arrangement": ["thing"], "moved": ["arrangement", "number"],
-                 "walked": ["walk"], "played": ["walk"], "arrangements": []}
-        for name, expected in names.items():
-            function = getattr(pairs, name)
-            self.assertEqual(list(inspect.signature(function).parameters), ["one", "other"] + expected)
-            self.assertEqual(function.__module__, "goesout.pairs")
-
     def test_by_name(self):
         first = start(*QUEUES)
         self.assertEqual(start(other=QUEUE_3, one=QUEUE_2), first)
@@ -275,16 +265,11 @@ class GeneralTest(Case):
 
     def test_nothing_is_modified(self):
         for value in ODD + PAIRS[:9] + (APART, list(APART), start(*QUEUES), nested_deep(20)):
-            before = copy.deepcopy(value)
-            for call in (lambda: start(value, ONE), lambda: is_arrangement(*QUEUES, value),
-                         lambda: moved(*QUEUES, value, 0), lambda: moved(*QUEUES, start(*QUEUES), value),
-                         lambda: walked(*QUEUES, value), lambda: played(*QUEUES, value),
-                         lambda: arrangements(ONE, value)):
-                try:
-                    call()
-                except GoesError:
-                    pass
-                self.assert_same(value, before)
+            self.assert_unmodified(value, (
+                lambda: start(value, ONE), lambda: is_arrangement(*QUEUES, value),
+                lambda: moved(*QUEUES, value, 0), lambda: moved(*QUEUES, start(*QUEUES), value),
+                lambda: walked(*QUEUES, value), lambda: played(*QUEUES, value),
+                lambda: arrangements(ONE, value)))
 
     def test_again_gives_the_same(self):
         for one, other in PAIRS:

@@ -2,20 +2,17 @@
 
 import copy
 import fractions
-import inspect
 import itertools
 import math
 import unittest
 
-from goesout import ratios as module
 from goesout.alike import alike, trimmed
-from goesout.errors import GoesError, NoRule, TooMany
 from goesout.excess import excess
 from goesout.named import chance, family, newest, queue, recent, segments, tree
 from goesout.ratios import ratio, shows_ratio
 from tests.samples import (
-    LATE_PAIRS, MIXED, NEWEST_2, ODD, ONE, PAIRS, QUEUE_2, QUEUE_3, RECENT_2, RECENT_3, WIDE, WRONG_PARTS, Case,
-    all_walks, made_rule, nested_deep, replaced, reshaped, slow_graph, slow_prices, slow_round,
+    LATE_PAIRS, MIXED, NEWEST_2, ODD, ONE, PAIRS, QUEUE_2, QUEUE_3, QUEUE_4, RECENT_2, RECENT_3, WIDE, Case,
+    all_walks, made_rule, nested_deep, slow_graph, slow_prices, slow_round,
 )
 
 QUEUE_RECENT = (QUEUE_2, RECENT_2)
@@ -149,11 +146,8 @@ class RatioTest(Case):
                     self.assertEqual(first[1], second[1])
 
     def test_too_many(self):
-        for one, other in ((queue(4), made_rule(4, 16, 1)), (queue(4), made_rule(4, 9, 273))):
-            with self.assertRaises(TooMany) as caught:
-                ratio(one, other)
-            self.assert_same(caught.exception.limit, 2000)
-        pair = (queue(4), made_rule(4, 9, 443))
+        self.assert_too_many(ratio)
+        pair = (QUEUE_4, made_rule(4, 9, 443))
         self.assertIs(shows_ratio(*pair, ratio(*pair)), True)
 
 
@@ -277,33 +271,12 @@ class ShowsTest(Case):
 
     def test_wrong_parts_and_shapes(self):
         for one, other in (QUEUE_RECENT, (ONE, ONE), (RECENT_2, ONE), (ONE, RECENT_2)):
-            good = ratio(one, other)
-            values = [value for wrong in WRONG_PARTS for value in replaced(good, wrong)] + reshaped(good)
-            self.assertGreater(len(values), 50)
-            for value in values:
-                self.assertIs(shows_ratio(one, other, value), slow_shows(one, other, value))
-            for value in replaced(good, False) + replaced(good, True):
-                self.assertIs(shows_ratio(one, other, value), False)
-
-
-class WrongTest(Case):
-    def test_no_rule(self):
-        for value in ODD + (nested_deep(20),):
-            for one, other in ((value, ONE), (ONE, value), (value, value)):
-                self.assertRaises(NoRule, ratio, one, other)
-                self.assertRaises(NoRule, shows_ratio, one, other, value)
-        for value in replaced(NEWEST_2, True):
-            self.assertRaises(NoRule, ratio, QUEUE_2, value)
-            self.assertRaises(NoRule, shows_ratio, value, ONE, ("ever", (), ()))
-        self.assertRaises(NoRule, ratio, WIDE, None)
+            self.assert_shows(shows_ratio, slow_shows, one, other, ratio(one, other))
 
 
 class GeneralTest(Case):
-    def test_names_of_the_arguments(self):
-        for name, expected in (("ratio", ["one", "other"]), ("shows_ratio", ["one", "other", "thing"])):
-            function = getattr(module, name)
-            self.assertEqual(list(inspect.signature(function).parameters), expected)
-            self.assertEqual(function.__module__, "goesout.ratios")
+    def test_no_rule(self):
+        self.assert_rules_first(ratio, shows_ratio)
 
     def test_by_name(self):
         self.assertEqual(ratio(other=RECENT_2, one=QUEUE_2), ratio(*QUEUE_RECENT))
@@ -317,14 +290,9 @@ class GeneralTest(Case):
 
     def test_nothing_is_modified(self):
         for value in ODD + PAIRS[:6] + (ratio(*QUEUE_RECENT), list(ratio(*QUEUE_RECENT)), ratio(ONE, RECENT_2)):
-            before = copy.deepcopy(value)
-            for call in (lambda: ratio(value, ONE), lambda: ratio(ONE, value),
-                         lambda: shows_ratio(*QUEUE_RECENT, value), lambda: shows_ratio(ONE, RECENT_2, value)):
-                try:
-                    call()
-                except GoesError:
-                    pass
-                self.assert_same(value, before)
+            self.assert_unmodified(value, (
+                lambda: ratio(value, ONE), lambda: ratio(ONE, value),
+                lambda: shows_ratio(*QUEUE_RECENT, value), lambda: shows_ratio(ONE, RECENT_2, value)))
 
     def test_again_gives_the_same(self):
         for one, other in ALL_PAIRS:
