@@ -243,10 +243,12 @@ class GoingTest(Case):
     def test_wrong_lists(self):
         requests = (4, 0, 1, 3)
         self.assertEqual(going(RECENTS, requests), (3, 1, 0, 4))
-        for value in ODD + ((3, 1, 0), (3, 1, 0, 4, 4), (3, 1, 0, 4, 5), (3, 1, 0, 0), (3, 1, 0, 5),
-                            (5, 1, 0, 4), (3, 3, 1, 0, 4), (), (3, True, 0, 4), (3, 1, False, 4), (3, 1, 0, None), (3, 1, 0, (4,)), [3, 1, 0, 4],
-                            (3, 1, 0, [4]), (3, 1, 0, {4: 4}), (3, 1, 0, "4"), (3, 1, 0, 100), (3, 1, 0, -1),
-                            ((3, 1, 0, 4),), nested_deep(20), (4,) * 20000):
+        wrong = (
+            (3, 1, 0), (3, 1, 0, 4, 4), (3, 1, 0, 4, 5), (3, 1, 0, 0), (3, 1, 0, 5), (5, 1, 0, 4), (3, 3, 1, 0, 4),
+            (), (3, True, 0, 4), (3, 1, False, 4), (3, 1, 0, None), (3, 1, 0, (4,)), [3, 1, 0, 4], (3, 1, 0, [4]),
+            (3, 1, 0, {4: 4}), (3, 1, 0, "4"), (3, 1, 0, 100), (3, 1, 0, -1), ((3, 1, 0, 4),), (4,) * 20000,
+        )
+        for value in ODD + wrong + (nested_deep(20),):
             self.assertIs(shows_going(RECENTS, requests, value), False)
         for value in [value for wrong in WRONG_PARTS for value in replaced((3, 1, 0, 4), wrong)]:
             self.assertIs(shows_going(RECENTS, requests, value), False)
