@@ -24,61 +24,67 @@ def is_rule(thing):
 
 def are_label_rows(labels, places):
     """Tell whether the parts of a tuple are label rows for so many places."""
+    # This is called so often that its tests are written out, not calls.
     orders = []
     last = ()
     for row in labels:
-        if not is_row(row, 3) or not is_whole(row[1], 0, places - 1):
+        if not isinstance(row, tuple) or len(row) != 3:
             return False
-        for moves in (row[0], row[2]):
-            # What equals moves can differ from them only by bools, and many
-            # rules have the same moves again and again. (As long as there
-            # are no orders, nothing was found right that last could be.)
-            is_new = not orders or moves != last
-            if is_new and not look_like_moves(moves, places, len(labels), orders):
-                return False
-            if hold_bools(moves, places):
-                return False
-            last = moves
+        hits, out, comes = row
+        if not isinstance(out, int) or out is True or out is False or not 0 <= out < places:
+            return False
+        if not isinstance(hits, tuple) or not isinstance(comes, tuple):
+            return False
+        if len(hits) != places or len(comes) != places:
+            return False
+        # What equals moves can differ from them only by bools, and many rules
+        # have the same moves again and again.
+        moves = hits + comes
+        if moves != last and not look_like_moves(moves, places, len(labels), orders):
+            return False
+        if hold_bools(moves, places):
+            return False
+        last = moves
     return True
 
 
-def look_like_moves(thing, places, many, orders):
-    """Tell whether any value is a move for each place, but for bools in it.
+def look_like_moves(parts, places, many, orders):
+    """Tell whether all parts are moves for so many places and labels, but for bools in them.
 
     The list orders is of those that were looked at before; new ones join it.
     """
-    if not isinstance(thing, tuple) or len(thing) != places:
-        return False
-    for move in thing:
+    for move in parts:
         if not isinstance(move, tuple) or len(move) != 2:
             return False
         order, label = move
         if order not in orders:
-            if not isinstance(order, tuple) or len(order) != places:
+            if not looks_like_order(order, places):
                 return False
-            for place in range(places):
-                if place not in order:
-                    return False
             orders.append(order)
         if not isinstance(label, int) or not 0 <= label < many:
             return False
     return True
 
 
+def looks_like_order(thing, places):
+    """Tell whether any value is an order of so many places, but for bools in it."""
+    if not isinstance(thing, tuple) or len(thing) != places:
+        return False
+    for place in range(places):
+        if place not in thing:
+            return False
+    return True
+
+
 def hold_bools(moves, places):
     """Tell whether a bool stands for an integer in what else are moves."""
-    if places == MOST_PLACES:
-        return hold_bools_of_four(moves)
-    for order, label in moves:
-        for part in (*order, label):
-            if part is True or part is False:
-                return True
-    return False
-
-
-def hold_bools_of_four(moves):
-    """Tell what hold_bools tells, of four places."""
-    # The longest rules have four places; written out, these take half the time.
+    if places != MOST_PLACES:
+        for order, label in moves:
+            for part in (*order, label):
+                if part is True or part is False:
+                    return True
+        return False
+    # The longest rules have four places: their parts by name take half the time.
     for (a, b, c, d), label in moves:
         if a is True or a is False or b is True or b is False or c is True or c is False:
             return True
