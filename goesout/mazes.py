@@ -1,6 +1,7 @@
 """Mazes: nodes, and turns that lead from each of them to others.
 
-Two rules side by side are a maze. An object of a maze has these methods:
+Two rules side by side are a maze, and so are a rule and the best cache. An
+object of a maze has these methods:
 
 - `first()`: the node at which all ways begin;
 - `holds(thing)`: whether any value is a node;
@@ -28,7 +29,7 @@ class Chart:
 
 
 def explored(maze, limit):
-    """Return the chart of a maze; TooMany if there are more nodes than the limit."""
+    """Return the chart of a maze; TooMany if there are more nodes than the limit, if it is not None."""
     nodes, edges, came = [maze.first()], [], [None]
     numbers = {nodes[0]: 0}
     while len(edges) < len(nodes):

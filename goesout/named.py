@@ -5,10 +5,10 @@ from goesout.kinds import is_row, is_whole
 from goesout.rules import MOST_PLACES, is_rule
 
 
-def check_places(places):
-    """Raise NoPlaces for what is no number of places of a rule."""
-    if not is_whole(places, 1, MOST_PLACES):
-        raise NoPlaces("the number of places is an integer from 1 to 4")
+def check_places(places, most=MOST_PLACES):
+    """Raise NoPlaces for what is no number of places from 1 to most."""
+    if not is_whole(places, 1, most):
+        raise NoPlaces(f"the number of places is an integer from 1 to {most}")
 
 
 def kept_order(places):

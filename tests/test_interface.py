@@ -20,6 +20,9 @@ INTERFACE = {
     "excess": {"excess": "one other", "shows_excess": "one other thing"},
     "ratios": {"ratio": "one other", "shows_ratio": "one other thing"},
     "alike": {"alike": "one other", "shows_alike": "one other thing", "trimmed": "rule"},
+    "best": {"fewest": "requests places", "plan": "requests places", "shows_fewest": "requests places thing"},
+    "against": {"stood": "rule places path", "against": "rule places", "shows_against": "rule places thing"},
+    "writes": {"is_accesses": "thing", "writebacks": "rule accesses", "line_writebacks": "family accesses"},
 }
 
 
