@@ -6,7 +6,7 @@ import itertools
 import random
 import unittest
 
-from goesout.errors import GoesError, NoRule, TooMany
+from goesout.errors import GoesError, NoRule, NothingDone, TooMany
 from goesout.rules import asked, beginning
 
 
@@ -105,6 +105,13 @@ LATE_PAIRS = (
     (in_time(QUEUE_2, RECENT_2, 7), RECENT_2), (RECENT_2, in_time(QUEUE_2, RECENT_2, 3)),
     (RECENT_3, in_time(QUEUE_3, RECENT_3, 5)),
 )
+
+
+def made_requests(seed, things, many=60):
+    """Return so many requests of so many things, always the same for a seed."""
+    source = random.Random(seed)
+    return tuple(source.choice(range(99, 99 - things, -1)) for _ in range(many))
+
 
 # Values of every kind that callers may hand in; none of them is a rule, a
 # state, a thing or requests. -2, 100 and 17 are beyond every range.
@@ -259,6 +266,16 @@ def kinds(value):
     return (type(value).__name__, value)
 
 
+def undone(made, told):
+    """Take back all requests of a cache or a line; return what is told of it each time."""
+    found = []
+    while True:
+        try:
+            found.append((made.undo(), told(made)))
+        except NothingDone:
+            return found
+
+
 class Case(unittest.TestCase):
     def assert_same(self, found, expected):
         """Equal, and of the same kinds throughout."""
@@ -273,6 +290,16 @@ class Case(unittest.TestCase):
             except GoesError:
                 pass
             self.assert_same(value, before)
+
+    def assert_unchanged(self, made, told, call, error):
+        """The call raises just this error, and a cache or a line is as it was before, also for undo."""
+        before, past = told(made), undone(copy.deepcopy(made), told)
+        with self.assertRaises(error) as caught:
+            call()
+        self.assertIs(type(caught.exception), error)
+        self.assert_same(told(made), before)
+        self.assert_same(undone(copy.deepcopy(made), told), past)
+        return caught.exception
 
     def assert_shows(self, shows, slow_shows, one, other, good):
         """What shows a thing and what is like it, with wrong parts and shapes, is told apart.

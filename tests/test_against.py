@@ -9,7 +9,7 @@ import math
 import random
 import unittest
 
-from goesout.against import against, shows_against, stood
+from goesout.against import Contest, against, shows_against, stood
 from goesout.best import fewest
 from goesout.errors import NoPath, NoPlaces, NoRule
 from goesout.named import chance, newest, queue, recent, segments, tree
@@ -370,6 +370,12 @@ class ShowsTest(Case):
                         self.assertIs(shows_against(rule, places, (word, fraction, way, turns, some)), good)
                         expected[good] += 1
         self.assertGreater(min(expected.values()), 20)
+
+    def test_which_standings_there_are(self):
+        for rule, places in ((ONE, 1), (RECENT_2, 1), (QUEUE_2, 2), (MIXED, 2), (QUEUE_3, 3)):
+            known, contest = all_standings(rule, places), Contest(rule, places)
+            for at in itertools.product(range(-1, 5), itertools.product(range(-2, 3), repeat=rule[0]), range(-1, 6)):
+                self.assertIs(contest.holds(at), repr(at) in known)
 
     def test_all_standings_there_are(self):
         # Prices for all of them, found by raising what is too low again and again.

@@ -1,25 +1,18 @@
 """Tests of goesout.best: points 2, 3, 13, 60, 61 and 90."""
 
 import itertools
-import random
 import unittest
 
 from goesout.best import fewest, plan, shows_fewest
 from goesout.errors import NoPlaces, NoRequests
 from goesout.named import chance, newest, queue, recent, segments, tree
 from goesout.runs import misses
-from tests.samples import ODD, RULES, WRONG_PARTS, Case, made_rule, nested_deep, replaced, reshaped
+from tests.samples import ODD, RULES, WRONG_PARTS, Case, made_requests, made_rule, nested_deep, replaced, reshaped
 
 FUNCTIONS = (fewest, plan, lambda requests, places: shows_fewest(requests, places, None))
 SESSION = (0, 1, 0, 2, 0, 1)
 ALL_SHORT = [requests for many in range(7) for requests in itertools.product(range(min(many, 4)), repeat=many)
              if list(dict.fromkeys(requests)) == sorted(set(requests))]
-
-
-def made_requests(seed, things, many=60):
-    """Return so many requests of so many things, always the same for a seed."""
-    source = random.Random(seed)
-    return tuple(source.choice(range(99, 99 - things, -1)) for _ in range(many))
 
 
 LONG = [made_requests(seed, things) for seed in range(6) for things in (1, 2, 3, 4, 6, 9, 14, 30, 100)]

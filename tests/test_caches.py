@@ -8,12 +8,12 @@ import unittest
 from goesout.caches import Cache, Noted, NotedPinned, Pinned
 from goesout.errors import GoesError, NoRule, NothingDone, NoThing, Pins
 from goesout.lines import Line
-from goesout.named import chance, family, newest, queue, recent, segments, tree
+from goesout.named import chance, family, newest, recent, segments, tree
 from goesout.rules import asked, beginning
 from goesout.runs import behind, gone, hits, kept, misses
 from tests.samples import (
-    MIXED, NEWEST_2, ODD, ONE, QUEUE_2, QUEUE_3, RECENT_2, RECENT_3, RULES, WIDE, Case, made_rule, nested_deep,
-    replaced,
+    MIXED, NEWEST_2, ODD, ONE, QUEUE_2, QUEUE_3, RECENT_2, RECENT_3, RULES, WIDE, Case, made_requests, made_rule,
+    nested_deep, replaced,
 )
 
 MANY_RULES = RULES + (chance(3), tree(4), segments(2, 1), newest(4), made_rule(4, 5, 1))
@@ -56,31 +56,9 @@ def filled(kind, rule, requests, *pinned):
     return cache
 
 
-def made_requests(seed, things, many=60):
-    """Return so many requests of so many things, always the same for a seed."""
-    source = random.Random(seed)
-    return tuple(source.choice(range(99, 99 - things, -1)) for _ in range(many))
-
-
 class CacheCase(Case):
     def assert_told(self, cache, requests, pinned=()):
         self.assert_same(told(cache), expected_told(type(cache), cache.rule, requests, pinned))
-
-    def assert_unchanged(self, cache, call, error):
-        """The call raises just this error, and the cache is as it was before, also for undo."""
-        before, past = told(cache), list(undone(copy.deepcopy(cache)))
-        with self.assertRaises(error) as caught:
-            call()
-        self.assertIs(type(caught.exception), error)
-        self.assert_same(told(cache), before)
-        self.assert_same(list(undone(copy.deepcopy(cache))), past)
-        return caught.exception
-
-
-def undone(cache):
-    """Take back all that a cache was asked for; yield what it tells each time."""
-    while cache.asked:
-        yield cache.undo(), told(cache)
 
 
 class CacheTest(CacheCase):
@@ -175,7 +153,7 @@ class CacheTest(CacheCase):
                 for value in NO_THINGS + (-1, 100):
                     for call in (lambda: cache.ask(value), lambda: cache(value), lambda: cache.ask_all(value),
                                  lambda: cache.ask_all(5, value)):
-                        self.assert_unchanged(cache, call, NoThing)
+                        self.assert_unchanged(cache, told, call, NoThing)
 
 
 class AskAllTest(CacheCase):
@@ -203,7 +181,7 @@ class AskAllTest(CacheCase):
             for wrong in (None, True, 100, -1, (0,), "0"):
                 for things in ((wrong,), (wrong, 4), (4, wrong), (4, 5, 6, 7, wrong), (4, 5, wrong, 6, wrong)):
                     cache = filled(kind, QUEUE_2, (1, 2))
-                    self.assert_unchanged(cache, lambda: cache.ask_all(*things), NoThing)
+                    self.assert_unchanged(cache, told, lambda: cache.ask_all(*things), NoThing)
                     self.assert_same(cache.undo(), 2)
                     self.assert_told(cache, (1,))
 
@@ -216,11 +194,11 @@ class UndoTest(CacheCase):
     def test_nothing_done(self):
         for kind in CLASSES:
             cache = kind(RECENT_2)
-            self.assert_unchanged(cache, cache.undo, NothingDone)
+            self.assert_unchanged(cache, told, cache.undo, NothingDone)
             cache.ask(5)
             self.assert_same(cache.undo(), 5)
-            self.assert_unchanged(cache, cache.undo, NothingDone)
-            self.assert_unchanged(cache, cache.undo, NothingDone)
+            self.assert_unchanged(cache, told, cache.undo, NothingDone)
+            self.assert_unchanged(cache, told, cache.undo, NothingDone)
             self.assertIs(cache.ask(5), False)
 
     def test_back_to_each_one(self):
@@ -231,7 +209,7 @@ class UndoTest(CacheCase):
                 for many in range(19, -1, -1):
                     self.assert_same(cache.undo(), requests[many])
                     self.assert_told(cache, requests[:many])
-                self.assert_unchanged(cache, cache.undo, NothingDone)
+                self.assert_unchanged(cache, told, cache.undo, NothingDone)
 
     def test_refused_ones_are_no_requests(self):
         for kind in CLASSES:
@@ -300,7 +278,7 @@ class TrialTest(CacheCase):
                             held.undo()
                         held.ask(9)
                         raise error
-                    self.assertIs(self.assert_unchanged(cache, lambda: cache.trial(work), type(error)), error)
+                    self.assertIs(self.assert_unchanged(cache, told, lambda: cache.trial(work), type(error)), error)
                     self.assert_told(cache, requests)
                     cache.ask(7)
                     self.assert_told(cache, requests + (7,))
@@ -308,10 +286,11 @@ class TrialTest(CacheCase):
     def test_refused_requests_and_undo_in_work(self):
         for kind in CLASSES:
             cache = filled(kind, RECENT_2, (4, 5))
-            self.assert_unchanged(cache, lambda: cache.trial(lambda held: [held(1), held(100)]), NoThing)
-            self.assert_unchanged(cache, lambda: cache.trial(lambda held: [held.undo() for _ in range(3)]), NothingDone)
-            self.assert_unchanged(cache, lambda: cache.trial(None), TypeError)
-            self.assert_unchanged(cache, lambda: cache.trial(lambda: cache(3)), TypeError)
+            self.assert_unchanged(cache, told, lambda: cache.trial(lambda held: [held(1), held(100)]), NoThing)
+            call = lambda: cache.trial(lambda held: [held.undo() for _ in range(3)])
+            self.assert_unchanged(cache, told, call, NothingDone)
+            self.assert_unchanged(cache, told, lambda: cache.trial(None), TypeError)
+            self.assert_unchanged(cache, told, lambda: cache.trial(lambda: cache(3)), TypeError)
 
     def test_what_was_there_before_is_taken_back(self):
         for kind in CLASSES:
@@ -328,7 +307,7 @@ class TrialTest(CacheCase):
                             raise Wrong()
                         return held.asked
                     if more[:1] == (4,):
-                        self.assert_unchanged(cache, lambda: cache.trial(work), Wrong)
+                        self.assert_unchanged(cache, told, lambda: cache.trial(work), Wrong)
                     else:
                         self.assert_same(cache.trial(work), 4 - many + len(more))
                         self.assert_told(cache, requests[:4 - many] + more)
@@ -355,8 +334,8 @@ class TrialTest(CacheCase):
             self.assert_told(cache, (4, 5, 6, 7, 8))
             # What an inner one did goes with the outer one.
             done = lambda held: held.trial(lambda again: [again.undo(), again.ask(9)])
-            self.assert_unchanged(cache, lambda: cache.trial(lambda held: [done(held), held.ask(-1)]), NoThing)
-            self.assert_unchanged(cache, lambda: cache.trial(lambda held: held.trial(inner)), Wrong)
+            self.assert_unchanged(cache, told, lambda: cache.trial(lambda held: [done(held), held.ask(-1)]), NoThing)
+            self.assert_unchanged(cache, told, lambda: cache.trial(lambda held: held.trial(inner)), Wrong)
 
     def test_deep_in_one_another(self):
         for kind in CLASSES:
@@ -374,11 +353,11 @@ class TrialTest(CacheCase):
                     cache.trial(work)
                     self.assert_told(cache, (4, 5) + tuple(range(20)))
                 else:
-                    self.assert_unchanged(cache, lambda: cache.trial(work), Wrong)
+                    self.assert_unchanged(cache, told, lambda: cache.trial(work), Wrong)
 
     def test_other_caches_are_as_work_left_them(self):
         cache, other = filled(Cache, RECENT_2, (4, 5)), Cache(RECENT_2)
-        self.assert_unchanged(cache, lambda: cache.trial(lambda held: [other.ask(1), held.ask(100)]), NoThing)
+        self.assert_unchanged(cache, told, lambda: cache.trial(lambda held: [other.ask(1), held.ask(100)]), NoThing)
         self.assert_told(other, (1,))
 
 
@@ -403,8 +382,9 @@ class PinnedTest(CacheCase):
     def test_refused_requests(self):
         for kind in WITH_PINS:
             cache = filled(kind, QUEUE_2, (4, 5), 4)
-            for call in (lambda: cache.ask(6), lambda: cache(6), lambda: cache.ask_all(6), lambda: cache.ask_all(5, 4, 7)):
-                self.assert_same(self.assert_unchanged(cache, call, Pins).thing, 4)
+            for call in (lambda: cache.ask(6), lambda: cache(6), lambda: cache.ask_all(6),
+                         lambda: cache.ask_all(5, 4, 7)):
+                self.assert_same(self.assert_unchanged(cache, told, call, Pins).thing, 4)
             # Hits and things that are not pinned are asked for as ever.
             self.assert_same((cache(4), cache(5)), (True, True))
             self.assert_told(cache, (4, 5, 4, 5), (4,))
@@ -421,7 +401,7 @@ class PinnedTest(CacheCase):
                         if lost in pinned:
                             call = source.choice((lambda: cache.ask(thing), lambda: cache(thing),
                                                   lambda: cache.ask_all(thing)))
-                            self.assert_same(self.assert_unchanged(cache, call, Pins).thing, lost)
+                            self.assert_same(self.assert_unchanged(cache, told, call, Pins).thing, lost)
                         else:
                             requests += (thing,)
                             self.assert_same(cache.ask(thing), hits(rule, requests)[-1])
@@ -432,14 +412,14 @@ class PinnedTest(CacheCase):
             cache = kind(QUEUE_2, 7, 8)
             self.assert_same(cache.ask_all(1, 2, 3, 4), (False,) * 4)
             self.assert_same(cache.ask_all(7, 8), (False, False))
-            self.assert_same(self.assert_unchanged(cache, lambda: cache(1), Pins).thing, 7)
+            self.assert_same(self.assert_unchanged(cache, told, lambda: cache(1), Pins).thing, 7)
 
     def test_the_thing_that_is_asked_for_may_be_pinned(self):
         for kind in WITH_PINS:
             cache = filled(kind, ONE, (3,), 4)
             self.assertIs(cache(4), False)
             self.assertIs(cache(4), True)
-            self.assert_same(self.assert_unchanged(cache, lambda: cache(3), Pins).thing, 4)
+            self.assert_same(self.assert_unchanged(cache, told, lambda: cache(3), Pins).thing, 4)
 
     def test_no_pinned_things(self):
         for kind in WITH_PINS:
@@ -451,23 +431,23 @@ class PinnedTest(CacheCase):
         for kind in WITH_PINS:
             cache = filled(kind, ONE, (3,), 3)
             for value in NO_THINGS:
-                self.assert_unchanged(cache, lambda: cache.ask(value), NoThing)
-                self.assert_unchanged(cache, lambda: cache.ask_all(value, 4), NoThing)
+                self.assert_unchanged(cache, told, lambda: cache.ask(value), NoThing)
+                self.assert_unchanged(cache, told, lambda: cache.ask_all(value, 4), NoThing)
                 # The first one that is refused, whatever stands behind it.
-                self.assert_same(self.assert_unchanged(cache, lambda: cache.ask_all(3, 4, value), Pins).thing, 3)
+                self.assert_same(self.assert_unchanged(cache, told, lambda: cache.ask_all(3, 4, value), Pins).thing, 3)
 
     def test_ask_all_of_one_that_is_refused_at_the_end(self):
         for kind in WITH_PINS:
             cache = filled(kind, QUEUE_2, (1, 2), 5)
             call = lambda: cache.ask_all(3, 5, 4, 6)
-            self.assert_same(self.assert_unchanged(cache, call, Pins).thing, 5)
+            self.assert_same(self.assert_unchanged(cache, told, call, Pins).thing, 5)
             self.assert_same(cache.ask_all(3, 5, 4), (False,) * 3)
 
     def test_in_a_trial(self):
         for kind in WITH_PINS:
             cache = filled(kind, QUEUE_2, (1, 2), 2)
             call = lambda: cache.trial(lambda held: [held.ask(3), held.ask(4)])
-            self.assert_same(self.assert_unchanged(cache, call, Pins).thing, 2)
+            self.assert_same(self.assert_unchanged(cache, told, call, Pins).thing, 2)
             cache.ask(3)
             self.assert_same(cache.undo(), 3)
 
@@ -475,7 +455,7 @@ class PinnedTest(CacheCase):
         for kind in WITH_PINS:
             for rule in MANY_RULES:
                 cache = filled(kind, rule, range(rule[0]), *range(rule[0]))
-                self.assertIn(self.assert_unchanged(cache, lambda: cache(50), Pins).thing, range(rule[0]))
+                self.assertIn(self.assert_unchanged(cache, told, lambda: cache(50), Pins).thing, range(rule[0]))
 
 
 class NotedTest(CacheCase):
@@ -579,6 +559,11 @@ class EqualTest(CacheCase):
             for value in NO_THINGS + (RECENT_2, (RECENT_2, (2, 1), 0), (2, 1), repr(cache), kind, (cache,), [cache],
                                       Line(family(recent, 2)), Line((ONE,)), object()):
                 self.same(cache, value, False)
+
+    def test_another_class_of_the_same_name(self):
+        made = filled(Cache, RECENT_2, (1, 2))
+        told = {"rule": made.rule, "row": made.row, "label": made.label, "_pinned": ()}
+        self.same(made, type("Cache", (), told)(), False)
 
     def test_as_a_part(self):
         cache = filled(Cache, RECENT_2, (1, 2))

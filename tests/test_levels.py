@@ -1,22 +1,15 @@
 """Tests of goesout.levels: points 2, 3 and 71."""
 
 import itertools
-import random
 import unittest
 
 from goesout.errors import NoPlaces, NoRequests
 from goesout.levels import levels
 from goesout.named import recent
 from goesout.runs import hits
-from tests.samples import ODD, WRONG_PARTS, Case, nested_deep, replaced, reshaped
+from tests.samples import ODD, WRONG_PARTS, Case, made_requests, nested_deep, replaced, reshaped
 
 SESSION = (0, 1, 2, 0, 3, 0, 1)
-
-
-def made_requests(seed, things, many=60):
-    """Return so many requests of so many things, always the same for a seed."""
-    source = random.Random(seed)
-    return tuple(source.choice(range(99, 99 - things, -1)) for _ in range(many))
 
 
 REQUESTS = [made_requests(seed, things) for seed in range(4) for things in (1, 2, 3, 4, 6, 9, 12, 17, 30)]

@@ -11,7 +11,9 @@ from goesout.lines import Line
 from goesout.lists import curve, line
 from goesout.named import chance, family, newest, queue, recent, segments
 from goesout.runs import behind, hits, kept, misses
-from tests.samples import MIXED, ODD, ONE, QUEUE_2, RECENT_2, Case, by_turns, made_rule, nested_deep, replaced
+from tests.samples import (
+    MIXED, ODD, ONE, QUEUE_2, RECENT_2, Case, by_turns, made_requests, made_rule, nested_deep, replaced,
+)
 
 RECENTS, NEWESTS, QUEUES = family(recent, 4), family(newest, 4), family(queue, 4)
 FAMILIES = (RECENTS, NEWESTS, QUEUES, RECENTS[:1], QUEUES[:2], NEWESTS[:3], family(chance, 4), (ONE, RECENT_2, MIXED),
@@ -43,31 +45,9 @@ def filled(rules, requests):
     return made
 
 
-def made_requests(seed, things, many=60):
-    """Return so many requests of so many things, always the same for a seed."""
-    source = random.Random(seed)
-    return tuple(source.choice(range(99, 99 - things, -1)) for _ in range(many))
-
-
 class LineCase(Case):
     def assert_told(self, made, requests):
         self.assert_same(told(made), expected_told(made.family, requests))
-
-    def assert_unchanged(self, made, call, error):
-        """The call raises just this error, and the line is as it was before, also for undo."""
-        before, past = told(made), list(undone(copy.deepcopy(made)))
-        with self.assertRaises(error) as caught:
-            call()
-        self.assertIs(type(caught.exception), error)
-        self.assert_same(told(made), before)
-        self.assert_same(list(undone(copy.deepcopy(made))), past)
-        return caught.exception
-
-
-def undone(made):
-    """Take back all that a line was asked for; yield what it tells each time."""
-    while made.counts[0]:
-        yield made.undo(), told(made)
 
 
 class LineTest(LineCase):
@@ -146,19 +126,19 @@ class LineTest(LineCase):
         for rules in FAMILIES[:5]:
             made = filled(rules, APART)
             for value in NO_THINGS + (-1, 100):
-                self.assert_unchanged(made, lambda: made.ask(value), NoThing)
-                self.assert_unchanged(made, lambda: made(value), NoThing)
+                self.assert_unchanged(made, told, lambda: made.ask(value), NoThing)
+                self.assert_unchanged(made, told, lambda: made(value), NoThing)
 
 
 class UndoTest(LineCase):
     def test_nothing_done(self):
         for rules in FAMILIES:
             made = Line(rules)
-            self.assert_unchanged(made, made.undo, NothingDone)
+            self.assert_unchanged(made, told, made.undo, NothingDone)
             made.ask(5)
             self.assertRaises(NoThing, made.ask, None)
             self.assert_same(made.undo(), 5)
-            self.assert_unchanged(made, made.undo, NothingDone)
+            self.assert_unchanged(made, told, made.undo, NothingDone)
             self.assert_told(made, ())
 
     def test_mixed_with_requests(self):
@@ -201,10 +181,10 @@ class TrialTest(LineCase):
                             held.undo()
                         held.ask(7)
                         raise error
-                    self.assertIs(self.assert_unchanged(made, lambda: made.trial(work), type(error)), error)
+                    self.assertIs(self.assert_unchanged(made, told, lambda: made.trial(work), type(error)), error)
                     self.assert_told(made, APART)
-        self.assert_unchanged(made, lambda: made.trial(lambda held: [held(1), held(100)]), NoThing)
-        self.assert_unchanged(made, lambda: made.trial(lambda held: [held.undo() for _ in range(9)]), NothingDone)
+        self.assert_unchanged(made, told, lambda: made.trial(lambda held: [held(1), held(100)]), NoThing)
+        self.assert_unchanged(made, told, lambda: made.trial(lambda held: [held.undo() for _ in range(9)]), NothingDone)
 
     def test_within_another_one(self):
         for rules in FAMILIES:
@@ -222,9 +202,9 @@ class TrialTest(LineCase):
                 held.trial(lambda again: again.ask(7))
             made.trial(outer)
             self.assert_told(made, (4, 5, 6, 7))
-            self.assert_unchanged(made, lambda: made.trial(lambda held: held.trial(inner)), Wrong)
+            self.assert_unchanged(made, told, lambda: made.trial(lambda held: held.trial(inner)), Wrong)
             done = lambda held: held.trial(lambda again: [again.undo(), again.ask(9)])
-            self.assert_unchanged(made, lambda: made.trial(lambda held: [done(held), held.ask(-1)]), NoThing)
+            self.assert_unchanged(made, told, lambda: made.trial(lambda held: [done(held), held.ask(-1)]), NoThing)
 
 
 class EqualTest(LineCase):

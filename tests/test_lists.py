@@ -1,7 +1,6 @@
 """Tests of goesout.lists: points 2, 3, 40, 41, 42 and 90."""
 
 import itertools
-import random
 import unittest
 
 from goesout.errors import NoFamily, NoRequests, NotNested, TooMany
@@ -12,7 +11,8 @@ from goesout.pairs import played
 from goesout.rules import asked
 from goesout.runs import behind, hits, kept, misses
 from tests.samples import (
-    MIXED, ODD, ONE, QUEUE_2, RECENT_2, WRONG_PARTS, Case, by_turns, made_rule, nested_deep, replaced,
+    MIXED, ODD, ONE, QUEUE_2, RECENT_2, WRONG_PARTS, Case, by_turns, made_requests, made_rule, nested_deep,
+    replaced,
 )
 
 RECENTS, NEWESTS, QUEUES = family(recent, 4), family(newest, 4), family(queue, 4)
@@ -28,12 +28,6 @@ OF_REQUESTS = (line, going, distances, curve)
 # The pair of 3 and 4 places has too many arrangements in each; of those with 2 and 3 the
 # first is nested, the second apart, and the third has too many, too.
 MANY = (made_rule(3, 16, 3), made_rule(4, 16, 4))
-
-
-def made_requests(seed, things, many=60):
-    """Return so many requests of so many things, always the same for a seed."""
-    source = random.Random(seed)
-    return tuple(source.choice(range(99, 99 - things, -1)) for _ in range(many))
 
 
 REQUESTS = [made_requests(seed, things) for seed in range(4) for things in (1, 2, 4, 5, 7, 30)]

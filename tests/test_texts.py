@@ -3,7 +3,7 @@
 import unittest
 
 from goesout.errors import NoRule, NoText
-from goesout.named import chance, newest, queue, recent, segments, tree
+from goesout.named import chance, newest, queue, segments, tree
 from goesout.texts import read_rule, rule_text
 from tests.samples import LATE_PAIRS, MIXED, ODD, ONE, RECENT_2, RULES, WIDE, Case, made_rule, nested_deep, replaced
 
@@ -133,8 +133,8 @@ class ReadRuleTest(Case):
 
     def test_numbers(self):
         # 01 and 1 are the same number, but only one is how it is written.
-        for number in ("01", "001", "+1", "-1", "1.", "1e0", "0x1", "1_0", "\u0661", "\uff11", "one", "", "2", "10" * 50,
-                       "1" * 3900, "True"):
+        for number in ("01", "001", "+1", "-1", "1.", "1e0", "0x1", "1_0", "\u0661", "\uff11", "one", "", "2",
+                       "10" * 50, "1" * 3900, "True"):
             self.refuse([RECENT_TEXT.replace("out 1", "out " + number)])
             if number != "2":
                 self.refuse([RECENT_TEXT.replace("hit 1", "hit " + number), RECENT_TEXT.replace("s 2", "s " + number)])
@@ -153,11 +153,13 @@ class ReadRuleTest(Case):
     def test_long_texts(self):
         self.assertGreater(len(rule_text(WIDE)), 2000)
         self.refuse(["x" * 4000, "\n" * 4000, " " * 4001, "places 2\n" + "out 1\n" * 800, "1" * 100000, "1 " * 3000,
-                     "places 2\n" * 2000, RECENT_TEXT + " " * 4000, rule_text(WIDE) * 2, "places 1\n" + "out 0\n" * 5000])
+                     "places 2\n" * 2000, RECENT_TEXT + " " * 4000, rule_text(WIDE) * 2,
+                     "places 1\n" + "out 0\n" * 5000])
 
     def test_words(self):
         for word, others in (("places", ("place", "Places", "out", "")), ("out", ("in", "outs", "Out", "hit", "")),
-                             ("hit", ("come", "hits", "HIT", "")), ("come", ("hit", "comes", "")), ("to", ("in", "0", ""))):
+                             ("hit", ("come", "hits", "HIT", "")), ("come", ("hit", "comes", "")),
+                             ("to", ("in", "0", ""))):
             for other in others:
                 self.refuse([RECENT_TEXT.replace(word, other), RECENT_TEXT.replace(word, other, 1),
                              RECENT_TEXT.replace(word + " ", other)])

@@ -55,7 +55,8 @@ CALLS = (
     (behind, (recent(2), RULE), (REQUESTS, THINGS)), (kept, (recent(2), RULE), (REQUESTS, THINGS)),
     (hits, (recent(2), RULE), (REQUESTS, THINGS)), (gone, (recent(2), RULE), (REQUESTS, THINGS)),
     (misses, (recent(2), RULE), (REQUESTS, THINGS)), (recent, (2, PLACES)), (queue, (2, PLACES)), (newest, (2, PLACES)),
-    (chance, (2, PLACES)), (tree, (2, PLACES)), (segments, (2, PLACES), (1, PLACES)), (family, (recent, RULE), (3, PLACES)),
+    (chance, (2, PLACES)), (tree, (2, PLACES)), (segments, (2, PLACES), (1, PLACES)),
+    (family, (recent, RULE), (3, PLACES)),
     (is_family, (RECENTS, False)), (start, (recent(2), RULE), (queue(3), RULE)),
     (is_arrangement, (recent(2), RULE), (queue(3), RULE), (AT_FIRST, False)),
     (moved, (recent(2), RULE), (queue(3), RULE), (AT_FIRST, errors.NoArrangement), (0, errors.NoNumber)),
@@ -88,7 +89,8 @@ CALLS = (
     (read_rule, (rule_text(recent(2)), errors.NoText)),
     (Cache, (recent(2), RULE)), (Noted, (recent(2), RULE)), (Pinned, (recent(2), RULE), (3, THING), (4, THING)),
     (NotedPinned, (recent(2), RULE), (3, THING), (4, THING)), (Line, (RECENTS, FAMILY)),
-    (Cache(recent(2)).ask, (3, THING)), (Cache(recent(2)), (3, THING)), (Noted(recent(2)).ask_all, (3, THING), (4, THING)),
+    (Cache(recent(2)).ask, (3, THING)), (Cache(recent(2)), (3, THING)),
+    (Noted(recent(2)).ask_all, (3, THING), (4, THING)),
     (Pinned(recent(2), 7).ask_all, (3, THING), (4, THING)), (NotedPinned(recent(2), 7).ask, (3, THING)),
     (Line(RECENTS).ask, (3, THING)), (Line(RECENTS), (3, THING)),
 )
@@ -232,7 +234,8 @@ class GeneralTest(WholeCase):
 
 
 class FactsTest(Case):
-    RULES = (recent(1), recent(2), queue(2), newest(2), chance(2), tree(2), recent(3), queue(3), newest(3), segments(1, 2))
+    RULES = (recent(1), recent(2), queue(2), newest(2), chance(2), tree(2), recent(3), queue(3), newest(3),
+             segments(1, 2))
 
     def test_caches_keep_what_runs_tell(self):
         for rule in self.RULES:

@@ -152,7 +152,8 @@ class WritebacksTest(Case):
 class LineTest(Case):
     def test_by_hand(self):
         self.assert_same(line_writebacks(RECENTS, SESSION), (3, 3, 3, 3))
-        self.assert_same(line_writebacks(RECENTS, ((0, True), (1, False), (0, True), (2, False), (1, True))), (3, 2, 2, 2))
+        accesses = ((0, True), (1, False), (0, True), (2, False), (1, True))
+        self.assert_same(line_writebacks(RECENTS, accesses), (3, 2, 2, 2))
         self.assert_same(line_writebacks((ONE,), SESSION), (3,))
 
     def test_what_each_cache_tells(self):
