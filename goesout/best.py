@@ -33,7 +33,8 @@ def kept_stays(requests, places, ends):
         if thing in last:
             found.append((last[thing], at))
         elif len(last) == places:
-            del last[farthest(last, ends, len(requests))]
+            goes = farthest(last, ends, len(requests))
+            del last[goes]
         last[thing] = at
     return tuple(sorted(found))
 

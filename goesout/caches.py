@@ -86,8 +86,8 @@ class Cache(Past):
         return self.row == other.row and self.label == other.label
 
     def __repr__(self):
-        return ", ".join([f"{self.__class__.__name__}({len(self.things)} of {self._rule[0]} places",
-                          f"{self.asked} asked", f"{self.missed} missed)"])
+        return "".join([self.__class__.__name__, f"({len(self.things)} of {self._rule[0]} places, ",
+                        f"{self.asked} asked, {self.missed} missed)"])
 
 
 class Pinned(Cache):

@@ -225,7 +225,58 @@ def expressions(text, tree):
                 yield "L23", node.lineno
 
 
-CHECKS = (sizes_and_signs, module_level, names_used, statements, expressions)
+def classes(text, tree):
+    """L5, L6, L7 and L28: what classes, `finally` and double-underscore methods may hold."""
+    for node in ast.walk(tree):
+        if isinstance(node, ast.ClassDef):
+            for part in node.body:
+                if not isinstance(part, (ast.FunctionDef, ast.Assign)) and not is_text(part):
+                    yield "L5", part.lineno
+                for word in getattr(part, "decorator_list", []):
+                    if ast.unparse(word).split(".")[-1] not in ("property", "setter", "staticmethod", "classmethod"):
+                        yield "L5", part.lineno
+        if called(node) == "super" and node.args:
+            yield "L5", node.lineno
+        if isinstance(node, ast.Attribute) and called(node.value) == "super":
+            if re.fullmatch(r"__\w+__", node.attr) and node.attr != "__init__":
+                yield "L5", node.lineno
+        for part in getattr(node, "finalbody", []):
+            if not is_simple_row(part):
+                yield "L6", part.lineno
+        # A class has an __eq__, so that these take a list.
+        if called(node) in WHOLE - {"list", "tuple", "dict", "join"}:
+            if any(isinstance(part, ast.GeneratorExp) for part in node.args):
+                yield "L7", node.lineno
+        if isinstance(node, ast.FunctionDef) and node.name in RETURNED:
+            for part in ast.walk(node):
+                if isinstance(part, ast.Return) and not is_returned(part.value, RETURNED[node.name]):
+                    yield "L28", part.lineno
+
+
+RETURNED = {"__len__": ("len",), "__repr__": ("str", "repr", "join"), "__str__": ("str", "repr", "join")}
+
+
+def is_text(node):
+    """Tell whether a statement is a docstring."""
+    return isinstance(node, ast.Expr) and isinstance(node.value, ast.Constant)
+
+
+def is_returned(node, calls):
+    """Tell whether __len__, __repr__ or __str__ may return this: a literal, or what these calls give."""
+    return isinstance(node, (ast.Constant, ast.JoinedStr)) or called(node) in calls
+
+
+def is_simple_row(node):
+    """Tell whether a statement may stand in a `finally`: the assignment of names, also under a test for None."""
+    if isinstance(node, ast.If):
+        return bool(re.fullmatch(r"[\w.]+ is (not )?None", ast.unparse(node.test))) and all(
+            map(is_simple_row, node.body + node.orelse))
+    if isinstance(node, ast.Assign):
+        return all(isinstance(part, (ast.Name, ast.Attribute, ast.Constant)) for part in node.targets + [node.value])
+    return isinstance(node, ast.Pass)
+
+
+CHECKS = (sizes_and_signs, module_level, names_used, statements, expressions, classes)
 
 # Each of these texts breaks the rule beside it.
 SAMPLES = (
@@ -248,6 +299,15 @@ SAMPLES = (
     ("L20", "def f(x, y):\n    return x is y"), ("L23", "def f(x):\n    return range(x)"),
     ("L24", "def f(xs):\n    return set(xs)"), ("L24", "def f(xs):\n    return [{x for x in xs}]"),
     ("L25", "def f(x):\n    return x.is_integer() or x.format_map(x)"), ("L27", "LOW = 'a%'"),
+    ("L5", "class A:\n    @abs\n    def f(self):\n        pass"), ("L5", "class A:\n    if 1:\n        B = 2"),
+    ("L5", "class A:\n    def f(self):\n        super(A, self).f()"),
+    ("L5", "class A:\n    def f(self):\n        return super().__repr__()"),
+    ("L6", "def f(xs):\n    try:\n        f(xs)\n    finally:\n        xs = f(xs)"),
+    ("L6", "def f(xs):\n    try:\n        f(xs)\n    finally:\n        if xs:\n            xs = 1"),
+    ("L6", "def f(xs):\n    try:\n        f(xs)\n    finally:\n        f(xs)"),
+    ("L7", "def f(xs):\n    return any(x for x in xs)"),
+    ("L28", "class A:\n    def __len__(self):\n        return self.n"),
+    ("L28", "class A:\n    def __repr__(self):\n        return self.name"),
     ("L27", "LOW = '\\x41'"), ("L27", "def f(x):\n    return 1if x else 2"),
 )
 
