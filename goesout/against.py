@@ -41,8 +41,7 @@ class Contest:
     def leaving(self, node, number):
         """Return a list of what the best cache may let go when this is asked for, ascending."""
         _, marks, others = node
-        in_best = number == OTHER or (number >= 0 and marks[number] == 1)
-        if in_best or marks.count(1) + others < self.places:
+        if is_in_best(marks, number) or marks.count(1) + others < self.places:
             return [NOTHING]
         found = [place for place in range(len(marks)) if marks[place] == 1]
         return [OTHER] + found if others > 0 else found
@@ -52,7 +51,7 @@ class Contest:
         label, marks, others = node
         number, goes = turn
         one_misses = 1 if number < 0 else 0
-        other_misses = 0 if number == OTHER or (number >= 0 and marks[number] == 1) else 1
+        other_misses = 0 if is_in_best(marks, number) else 1
         found = list(marks)
         if goes >= 0:
             found[goes] = 0
@@ -88,6 +87,11 @@ class Contest:
         if (number >= 0 and marks[number] == BLANK) or goes not in self.leaving(node, number):
             return None
         return self.taken(node, turn)
+
+
+def is_in_best(marks, number):
+    """Tell whether what a number asks for is in the best cache."""
+    return number == OTHER or (number >= 0 and marks[number] == 1)
 
 
 def stood(rule, places, path):
